@@ -1,0 +1,1 @@
+"""Keptways: leading ties past a place with all numbers of ways kept."""

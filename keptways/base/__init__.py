@@ -1,0 +1,1 @@
+"""Words and nets, on which all else is built."""
