@@ -30,6 +30,8 @@ STRANGE = (None, True, False, -1, -(10 ** 60), 10 ** 60, 10 ** 99, "", "A", "a "
 NO_PLACES = (*STRANGE, 0, 1, (), ("a",), {}, "q", PAIR)
 NO_WORDS = (*STRANGE, 0, 1, (), ("a",), {}, PAIR)
 NO_NUMBERS = (*STRANGE, (), ("a",), {}, "q", PAIR)
+NO_NETS = (*STRANGE, 0, 1, (), ("a",), {}, "a", "a b 1", FULL.places, FULL.ties, FULL.lines, [FULL], (FULL,), {"a": FULL})
+NO_LOTS = (*STRANGE, ("b", "a"), ("a", "a"), ("a", "q"), ("q",), ["a"], [], {}, {"a": 1}, "a", "ab", 1, 0, FULL, ("a", ["b"]))
 
 
 def drawn_nets(many):
@@ -46,6 +48,7 @@ def drawn_nets(many):
 
 
 ALL = (*NAMED, *drawn_nets(60))
+SMALL = [net for net in drawn_nets(150) if len(net) <= 6]
 
 
 def single_ties(net):

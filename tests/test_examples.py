@@ -3,6 +3,7 @@
 import doctest
 import unittest
 
+from keptways.base.lots import between, corners, do_cross, excesses, is_nested, lifted, lots, merged_row, weakest
 from keptways.base.nets import Net
 from keptways.base.words import is_integer, is_pair, is_word
 from tests.samples import FULL, HUB, PAIR, RING, Case
@@ -25,6 +26,14 @@ class Examples(Case):
                     (PAIR | path).lines],
                    [(('a', 'b'), ('b', 'c')), (('a',), ('b', 'c')), {('a', 'm'): 2, ('a', 'z'): 2, ('m', 'z'): 2},
                     {('a', 'b'): 2, ('b', 'c'): 2}, ('a b c', 'a b 4', 'b c 1')])
+
+    def test_lots(self):
+        self.alike([corners(RING, ("a", "b"), ("b", "c")), do_cross(RING, ("a", "b"), ("b", "c")),
+                    excesses(RING, ("a", "b"), ("b", "c")), between(HUB, ("a", "b"), ("z",))],
+                   [(('b',), ('a',), ('c',), ('d', 'e')), True, (0, 0), 3])
+        self.alike([weakest(HUB), len([one for one in lots(FULL)]), merged_row(RING, (("a", "b"), ("d", "e"))).lines,
+                    is_nested(FULL, (("a",), ("a", "b"))), lifted(FULL, ("a", "b"), 3)],
+                   [(3, (('b',), ('c',))), 14, ('a c d', 'a c 1', 'a d 1', 'c d 1'), True, True])
 
 
 def load_tests(_loader, tests, _pattern):

@@ -1,30 +1,63 @@
-"""The introduction of the interface: where names stand, and what the rules of the language say of files."""
+"""The introduction of the interface: each name in its module, with the arguments that are listed for it."""
 
-import ast
+import importlib
 import inspect
 import unittest
-from pathlib import Path
 
-import keptways
 from keptways import errors
-from keptways.base import nets, words
 
-FOLDER = Path(keptways.__file__).parent
-FILES = sorted(path for path in FOLDER.rglob("*") if "__pycache__" not in path.parts and path.is_file())
-
-LIBRARY = ("collections", "heapq", "itertools", "math")
-
-PARAMETERS = {words.is_integer: "value", words.is_word: "value", words.is_pair: "value"}
-METHODS = {"tied": "self, one, other", "degree": "self, place", "near": "self, place", "cut": "self, lot",
-           "joined": "self, one, other, many=1", "untied": "self, one, other, many=1", "with_place": "self, place",
-           "without_place": "self, place", "merged": "self, lot, name", "part": "self, lot", "renamed": "self, names",
-           "groups": "self", "lone_ties": "self", "__init__": "self, places, ties=None", "read": "*lines"}
-SIGNS = ("__or__", "__add__", "__sub__", "__and__", "__contains__", "__len__", "__iter__", "__getitem__", "__eq__", "__str__")
-PROPERTIES = ("places", "ties", "lines", "degrees", "size", "pairs", "odd", "even")
+FUNCTIONS = {
+    "keptways.base.words": {"is_integer": "value", "is_word": "value", "is_pair": "value"},
+    "keptways.base.lots": {
+        "is_lot": "net, value", "opposite": "net, lot", "lots": "net", "corners": "net, one, other", "do_cross": "net, one, other",
+        "between": "net, one, other", "excesses": "net, one, other", "is_row": "net, value", "is_nested": "net, value",
+        "merged_row": "net, row", "weakest": "net", "lifted": "net, lot, most"},
+    "keptways.ways.flows": {
+        "number": "net, one, other", "family": "net, one, other", "is_family": "net, one, other, value",
+        "nearest_lot": "net, one, other", "farthest_lot": "net, one, other", "least_lots": "net, one, other",
+        "number_paper": "net, one, other", "is_number_paper": "net, one, other, value", "most_apart": "net, one, other, many"},
+    "keptways.ways.trees": {
+        "all_numbers": "net", "cut_tree": "net", "is_cut_tree": "net, value", "least_number": "net", "least_lot": "net",
+        "classes": "net, k", "class_lots": "net, k", "numbers_paper": "net", "is_numbers_paper": "net, value"},
+    "keptways.ways.tight": {
+        "need": "net, lot", "need_beside": "net, place, lot", "spare": "net, place, lot", "tight_lots": "net, place",
+        "narrow_lots": "net, place", "barring_lot": "net, place, one, other", "side_by_side": "net, place, lot, other",
+        "uncrossed": "net, place, lots"},
+}
+CONSTANTS = {"keptways.base.words": {"MAX_LETTERS": 8}, "keptways.base.nets": {"MAX_PLACES": 9, "MAX_TIES": 60}}
+# For each class its methods, its properties, and what Python's signs ask of it.
+CLASSES = {
+    ("keptways.base.nets", "Net"): (
+        {"tied": "self, one, other", "degree": "self, place", "near": "self, place", "cut": "self, lot",
+         "joined": "self, one, other, many=1", "untied": "self, one, other, many=1", "with_place": "self, place",
+         "without_place": "self, place", "merged": "self, lot, name", "part": "self, lot", "renamed": "self, names",
+         "groups": "self", "lone_ties": "self", "__init__": "self, places, ties=None"},
+        ("places", "ties", "lines", "degrees", "size", "pairs", "odd", "even"),
+        ("or", "add", "sub", "and", "contains", "len", "iter", "getitem", "eq", "str")),
+    ("keptways.ways.flows", "Ways"): (
+        {"turned": "self", "behind": "self, one, other", "uses": "self, one, other", "is_needed": "self, one, other",
+         "__init__": "self, net, one, other"},
+        ("net", "tips", "total", "shown", "nearest", "farthest"),
+        ("contains", "len", "iter", "eq", "str")),
+    ("keptways.ways.trees", "CutTree"): (
+        {"number_of": "self, one, other", "way": "self, one, other", "narrowest": "self, one, other", "side": "self, index",
+         "families": "self", "is_tree_of": "self, net", "__init__": "self, net, rows=None"},
+        ("net", "triples"),
+        ("getitem", "contains", "len", "iter", "eq", "str")),
+    ("keptways.ways.tight", "Needs"): (
+        {"of": "self, lot", "spare_of": "self, lot", "kept_by": "self, net", "__init__": "self, net, place"},
+        ("net", "place", "numbers", "tight", "narrow"),
+        ("contains", "len", "eq", "str")),
+}
+GENERATORS = (("keptways.base.lots", "lots"),)
 ERRORS = {"NetError": None, "InvalidWord": None, "InvalidNet": None, "InvalidLot": None, "InvalidWays": None,
           "InvalidGrowth": None, "InvalidStreets": None, "InvalidRow": None, "InvalidOperation": None,
           "ParseError": "line", "UnknownPlace": "asked", "NoWay": "ends", "NothingToUndo": "amount", "TooMany": "limit",
           "Refused": "cause", "InvalidNumber": "number"}
+
+
+def named(module, name):
+    return getattr(importlib.import_module(module), name)
 
 
 class Names(unittest.TestCase):
@@ -36,50 +69,41 @@ class Names(unittest.TestCase):
                 self.assertEqual(str(inspect.signature(getattr(errors, name))), f"({attribute})")
 
     def test_functions_stand_in_their_module(self):
-        for function, parameters in PARAMETERS.items():
-            self.assertEqual(function.__module__, "keptways.base.words")
-            self.assertEqual(str(inspect.signature(function)), f"({parameters})")
+        for module, functions in FUNCTIONS.items():
+            for name, told in functions.items():
+                function = named(module, name)
+                self.assertTrue(inspect.isfunction(function), name)
+                self.assertEqual((function.__module__, function.__name__), (module, name))
+                self.assertEqual(str(inspect.signature(function)), f"({told})", name)
 
-    def test_the_class_has_its_methods_itself(self):
-        self.assertEqual(nets.Net.__module__, "keptways.base.nets")
-        for name, parameters in METHODS.items():
-            self.assertIn(name, vars(nets.Net))
-            self.assertEqual(str(inspect.signature(getattr(nets.Net, name))), f"({parameters})")
-        for name in SIGNS:
-            self.assertTrue(inspect.isfunction(vars(nets.Net)[name]), name)
-        for name in PROPERTIES:
-            self.assertIsInstance(vars(nets.Net)[name], property, name)
-        self.assertIsInstance(vars(nets.Net)["read"], classmethod)
+    def test_constants_stand_in_their_module(self):
+        for module, constants in CONSTANTS.items():
+            for name, value in constants.items():
+                self.assertEqual((named(module, name), type(named(module, name))), (value, int))
 
+    def test_classes_have_their_methods_themselves(self):
+        for (module, name), (methods, properties, signs) in CLASSES.items():
+            told = named(module, name)
+            self.assertEqual((told.__module__, told.__name__), (module, name))
+            for method, given in methods.items():
+                self.assertTrue(inspect.isfunction(vars(told)[method]), method)
+                self.assertEqual(str(inspect.signature(vars(told)[method])), f"({given})", method)
+            for one in properties:
+                self.assertIsInstance(vars(told)[one], property, one)
+            for sign in signs:
+                self.assertTrue(inspect.isfunction(vars(told)[f"__{sign}__"]), sign)
+            if "iter" not in signs:
+                self.assertFalse(hasattr(told, "__iter__"), name)
 
-class Files(unittest.TestCase):
+    def test_read_is_a_class_method(self):
+        read = vars(named("keptways.base.nets", "Net"))["read"]
+        self.assertIsInstance(read, classmethod)
+        self.assertEqual(str(inspect.signature(read.__func__)), "(cls, *lines)")
 
-    def test_the_package_has_only_files_of_python(self):
-        self.assertEqual([path for path in FILES if path.suffix != ".py"], [])
-        for path in FILES:
-            self.assertTrue((path.parent / "__init__.py").is_file(), path)
-
-    def test_sizes_and_characters(self):
-        for path in FILES:
-            rows = path.read_text(encoding="utf-8").split("\n")
-            self.assertLess(len(rows), 401, path)
-            for row in rows:
-                self.assertLessEqual(len(row), 120, path)
-                self.assertTrue(all(" " <= sign <= "~" for sign in row), row)
-
-    def test_functions_are_short(self):
-        for path in FILES:
-            for node in ast.walk(ast.parse(path.read_text(encoding="utf-8"))):
-                if isinstance(node, ast.FunctionDef):
-                    self.assertLessEqual(node.end_lineno - node.lineno + 1, 40, node.name)
-
-    def test_imports_are_of_the_package_or_the_library(self):
-        for path in FILES:
-            for node in ast.walk(ast.parse(path.read_text(encoding="utf-8"))):
-                self.assertNotIsInstance(node, ast.Import)
-                if isinstance(node, ast.ImportFrom):
-                    self.assertEqual(node.level, 0, path)
-                    self.assertIn(node.module.split(".")[0], ("keptways", *LIBRARY), path)
+    def test_generators(self):
+        for module, name in GENERATORS:
+            self.assertTrue(inspect.isgeneratorfunction(named(module, name)))
+        self.assertTrue(inspect.isgeneratorfunction(named("keptways.ways.trees", "CutTree").families))
 
 
 if __name__ == "__main__":

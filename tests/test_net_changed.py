@@ -5,10 +5,11 @@ from itertools import combinations
 
 from keptways.base.nets import Net
 from keptways.errors import InvalidLot, InvalidNet, InvalidNumber, InvalidOperation, InvalidWord, UnknownPlace
+from tests import samples
 from tests.samples import (ALL, CROWD, DEEP, FULL, HUB, LETTERS, LOOSE, NINE, NO_NUMBERS, NO_PLACES, NO_WORDS, ONE, PAIR, RING,
                            SIXTY, STRANGE, Case, single_ties)
 
-NO_LOTS = (*STRANGE, ("b", "a"), ("a", "a"), ("a", "q"), ("q",), ["a"], [], {"a": 1}, "a", 1, FULL, ("a", ["b"]), ())
+NO_LOTS = (*samples.NO_LOTS, ())
 
 
 def counted(pairs):

@@ -37,7 +37,7 @@ def _are_ties(places, value):
             and sum(value.values()) <= MAX_TIES)
 
 
-def _are_names(places, value):
+def are_names(places, value):
     """Whether the value is a dict from just these places to different words."""
     return (isinstance(value, dict) and len(value) == len(places)
             and all([place in value and is_word(value[place]) for place in places])
@@ -81,6 +81,24 @@ def _check_operand(value):
     """Refuse what is no net as an operand."""
     if not isinstance(value, Net):
         raise InvalidOperation("an operand is no net")
+
+
+def check_net(value):
+    """Refuse what is no net."""
+    if not isinstance(value, Net):
+        raise InvalidNet("there is no net")
+
+
+def check_place(net, place):
+    """Refuse what is no place of the net."""
+    if place not in net.places:
+        raise UnknownPlace(place)
+
+
+def check_lot(net, lot):
+    """Refuse what is no lot of the net."""
+    if not makes_lot(net.places, lot):
+        raise InvalidLot("there is no such lot")
 
 
 class Net:
@@ -213,7 +231,7 @@ class Net:
 
     def renamed(self, names):
         """The net with other places."""
-        if not _are_names(self._places, names):
+        if not are_names(self._places, names):
             raise InvalidOperation("names lead from just the places to different words")
         return self._called(names)
 

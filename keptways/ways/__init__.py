@@ -1,0 +1,1 @@
+"""Numbers of ways, cut trees, and tight lots."""
