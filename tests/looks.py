@@ -2,6 +2,7 @@
 
 from itertools import combinations
 
+from keptways.base.nets import Net
 from tests.samples import single_ties
 
 
@@ -140,3 +141,56 @@ def bends(value):
             yield {other: value[other] for other in value if other != key}
             for bent in bends(value[key]):
                 yield {**value, key: bent}
+
+
+def counted(ties):
+    """The dict of ties with each pair of a list, in either order."""
+    ordered = sorted(tuple(sorted(pair)) for pair in ties)
+    return {pair: ordered.count(pair) for pair in ordered}
+
+
+def pairs_at(net, place):
+    """The pairs of the far ends of two ties of a place."""
+    ends = [other for pair in single_ties(net) if place in pair for other in pair if other != place]
+    return tuple(sorted({tuple(sorted(two)) for two in combinations(ends, 2)}))
+
+
+def led_past(net, place, pair):
+    """The net behind leading past, made of a list of ties."""
+    ties = single_ties(net)
+    for tip in pair:
+        ties.remove(tuple(sorted((tip, place))))
+    return Net(net.places, counted([*ties, pair] if pair[0] != pair[1] else ties))
+
+
+def does_keep(net, place, pair):
+    return beside(net, place) == beside(led_past(net, place, pair), place)
+
+
+def right_keeping_paper(net, place, pair, value):
+    if not isinstance(value, tuple) or not value:
+        return False
+    places = others(net, place)
+    if value[0] == "kept":
+        return len(value) == 2 and right_kept_rows(net, place, pair, value[1])
+    if value[0] != "loses" or len(value) != 5:
+        return False
+    _, one, other, ways, lot = value
+    if not isinstance(one, str) or not isinstance(other, str) or one not in places or other not in places or one == other:
+        return False
+    return (right_family(net, one, other, ways) and right_lot(places, lot) and {one, *pair} <= {*lot} and other not in lot
+            and cut(net, lot) < len(ways) + 2)
+
+
+def right_kept_rows(net, place, pair, rows):
+    places, behind = others(net, place), led_past(net, place, pair)
+    if not right_branches(places, rows, 4):
+        return False
+    pairs = [row[:2] for row in rows]
+    for at, (one, other, many, ways) in enumerate(rows):
+        side = sides(places, pairs, at)[0]
+        if not is_number(many) or many != min(cut(net, side), cut(net, (*side, place))):
+            return False
+        if not right_family(behind, one, other, ways) or len(ways) != many:
+            return False
+    return True

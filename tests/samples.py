@@ -47,8 +47,26 @@ def drawn_nets(many):
     return nets
 
 
-ALL = (*NAMED, *drawn_nets(60))
-SMALL = [net for net in drawn_nets(150) if len(net) <= 6]
+def waisted_nets(many):
+    """Nets of two strong halves with few ties between them, so that the least lots are no single places."""
+    draw = random.Random(8)
+    nets = []
+    while len(nets) < many:
+        places = LETTERS[:draw.randint(4, 9)]
+        half = places[::2] if draw.random() < 0.5 else places[:len(places) // 2]
+        pairs = [(one, other) for one in places for other in places if one < other]
+        ties = {pair: draw.randint(1, 4) for pair in pairs if (pair[0] in half) == (pair[1] in half)}
+        for _ in range(draw.randint(1, 4)):
+            pair = draw.choice([pair for pair in pairs if (pair[0] in half) != (pair[1] in half)])
+            ties[pair] = ties.get(pair, 0) + 1
+        if sum(ties.values()) <= 60:
+            nets.append(Net(tuple(places), ties))
+    return nets
+
+
+WAISTED = waisted_nets(40)
+ALL = (*NAMED, *drawn_nets(60), *WAISTED)
+SMALL = [net for net in (*WAISTED, *drawn_nets(150)) if len(net) <= 6]
 
 
 def single_ties(net):

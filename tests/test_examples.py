@@ -6,6 +6,10 @@ import unittest
 from keptways.base.lots import between, corners, do_cross, excesses, is_nested, lifted, lots, merged_row, weakest
 from keptways.base.nets import Net
 from keptways.base.words import is_integer, is_pair, is_word
+from keptways.errors import NoWay
+from keptways.grow.growth import Growth, growth_paper, holds_all, is_growth, is_thin, pinched, weak_lot
+from keptways.past.pairs import is_keeping_paper, keeping_pairs, led_past, losing_lots, numbers_beside, pairs_at
+from keptways.past.whole import do_keep, is_ready, left_net, partners, whole_past
 from tests.samples import FULL, HUB, PAIR, RING, Case
 
 
@@ -34,6 +38,30 @@ class Examples(Case):
         self.alike([weakest(HUB), len([one for one in lots(FULL)]), merged_row(RING, (("a", "b"), ("d", "e"))).lines,
                     is_nested(FULL, (("a",), ("a", "b"))), lifted(FULL, ("a", "b"), 3)],
                    [(3, (('b',), ('c',))), 14, ('a c d', 'a c 1', 'a d 1', 'c d 1'), True, True])
+
+    def test_leading_past(self):
+        self.alike([pairs_at(HUB, "z"), keeping_pairs(HUB, "z"), led_past(HUB, "z", ("a", "b")).ties],
+                   [(('a', 'a'), ('a', 'b'), ('a', 'c'), ('b', 'c')), (('a', 'b'), ('a', 'c')),
+                    {('a', 'b'): 2, ('a', 'c'): 1, ('a', 'z'): 1, ('b', 'c'): 1, ('c', 'z'): 1}])
+        self.alike([keeping_pairs(FULL, "d"), losing_lots(FULL, "d", ("a", "b")), numbers_beside(HUB, "z")],
+                   [(), (('a', 'b'),), {('a', 'b'): 3, ('a', 'c'): 3, ('b', 'c'): 3}])
+        paper = ("loses", "a", "c", (("a", "c"), ("a", "b", "c"), ("a", "d", "c")), ("a", "b"))
+        self.assertIs(is_keeping_paper(FULL, "d", ("a", "b"), paper), True)
+
+    def test_whole_places(self):
+        self.alike([whole_past(RING, "a"), left_net(RING, "a").ties, is_ready(HUB, "z"), partners(HUB, "z", "a"),
+                    do_keep(HUB, "z", (("a", "b"), ("a", "c")))],
+                   [(('b', 'e'),), {('b', 'c'): 1, ('b', 'e'): 1, ('c', 'd'): 1, ('d', 'e'): 1}, True, ('b', 'c'), True])
+        self.refused(NoWay, whole_past, FULL, "a")
+
+    def test_growth(self):
+        self.alike([growth_paper(RING, 1)[0], growth_paper(RING, 2)[0], holds_all(FULL, 3), weak_lot(FULL, 3), is_thin(RING, 1)],
+                   ['growth', 'lot', True, None, True])
+        one = Growth(2, ("a", ("pinch", "b", (("a", "a"), ("a", "a"))), ("tie", "a", "b"), ("pinch", "c", (("a", "b"), ("a", "b")))))
+        self.alike([one.net.ties, str(one), one.born, is_growth(one.net, 2, ("a", *one.steps)),
+                    pinched(PAIR, "c", (("a", "b"), ("b", "b"))).ties],
+                   [{('a', 'b'): 3, ('a', 'c'): 2, ('b', 'c'): 2}, '3 steps, 2 pinches', ('a', 'b', 'c'), True,
+                    {('a', 'b'): 3, ('a', 'c'): 1, ('b', 'c'): 3}])
 
 
 def load_tests(_loader, tests, _pattern):

@@ -91,6 +91,18 @@ class Families(Case):
         self.alike(sorted(family(RING, "a", "c")), [("a", "b", "c"), ("a", "e", "d", "c")])
         self.alike(family(SIXTY, "dock", "pier"), (("dock", "pier"),) * 60)
 
+    def test_a_shortest_way_that_bars_others(self):
+        # The way over b and c is the shortest one, but no two ways apart have it.
+        net = Net(tuple("abcdpqxy"), looks.counted([("a", "b"), ("b", "c"), ("c", "d"), ("b", "x"), ("x", "y"), ("y", "d"), ("a", "p"),
+                                                    ("p", "q"), ("q", "c")]))
+        self.alike(sorted(family(net, "a", "d")), [("a", "b", "x", "y", "d"), ("a", "p", "q", "c", "d")])
+        self.alike(sorted(family(net, "d", "a")), [("d", "c", "q", "p", "a"), ("d", "y", "x", "b", "a")])
+        twice = net + net
+        for one, other in directed(twice):
+            ways = family(twice, one, other)
+            self.assertTrue(looks.right_family(twice, one, other, ways))
+            self.assertEqual(len(ways), 2 * number(net, one, other))
+
     def test_families_of_any_size(self):
         for ways in ((), (("a", "d"),), (("a", "b", "d"), ("a", "c", "d"), ("a", "d")), (("a", "c", "b", "d"), ("a", "d"))):
             self.assertIs(is_family(FULL, "a", "d", ways), True)
@@ -103,6 +115,8 @@ class Families(Case):
                      (("a", "d", "b"),), (("a", "b", "c", "b", "d"),), (("a", "b"),), ("ad",), {("a", "d"): 1}):
             self.assertIs(is_family(FULL, "a", "d", ways), False)
         self.assertIs(is_family(PAIR, "a", "b", (("a", "b"),) * 5), False)
+        for way in (("a", "b", "a", "c", "d"), ("a", "c", "d", "c", "b", "d"), ("a", "b", "d", "c", "d")):
+            self.assertIs(is_family(LADDER.joined("a", "c"), "a", "d", (way,)), False)
         self.assertIs(is_family(RING, "a", "c", (("a", "c"),)), False)
         self.assertIs(is_family(FULL, "a", "b", (("a", "c", "d", "b"), ("a", "d", "c", "b"))), False)
         for value in STRANGE:

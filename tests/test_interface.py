@@ -23,8 +23,20 @@ FUNCTIONS = {
         "need": "net, lot", "need_beside": "net, place, lot", "spare": "net, place, lot", "tight_lots": "net, place",
         "narrow_lots": "net, place", "barring_lot": "net, place, one, other", "side_by_side": "net, place, lot, other",
         "uncrossed": "net, place, lots"},
+    "keptways.past.pairs": {
+        "pairs_at": "net, place", "led_past": "net, place, pair", "numbers_beside": "net, place", "does_keep": "net, place, pair",
+        "keeping_pairs": "net, place", "losing_lots": "net, place, pair", "keeping_paper": "net, place, pair",
+        "is_keeping_paper": "net, place, pair, value"},
+    "keptways.past.whole": {
+        "steps_net": "net, place, steps", "do_keep": "net, place, steps", "is_ready": "net, place", "partners": "net, place, other",
+        "gone_on": "net, place, steps", "whole_past": "net, place", "is_whole_past": "net, place, value", "left_net": "net, place"},
+    "keptways.grow.growth": {
+        "pinched": "net, place, pairs", "grown": "k, growth", "is_growth": "net, k, value", "holds_all": "net, least",
+        "weak_lot": "net, least", "thinned": "net, k", "is_thin": "net, k", "growth_of": "net, k", "growth_paper": "net, k",
+        "is_growth_paper": "net, k, value"},
 }
-CONSTANTS = {"keptways.base.words": {"MAX_LETTERS": 8}, "keptways.base.nets": {"MAX_PLACES": 9, "MAX_TIES": 60}}
+CONSTANTS = {"keptways.base.words": {"MAX_LETTERS": 8}, "keptways.base.nets": {"MAX_PLACES": 9, "MAX_TIES": 60},
+             "keptways.past.whole": {"MAX_NETS": 10000}, "keptways.grow.growth": {"MAX_HALF": 30}}
 # For each class its methods, its properties, and what Python's signs ask of it.
 CLASSES = {
     ("keptways.base.nets", "Net"): (
@@ -48,6 +60,11 @@ CLASSES = {
         {"of": "self, lot", "spare_of": "self, lot", "kept_by": "self, net", "__init__": "self, net, place"},
         ("net", "place", "numbers", "tight", "narrow"),
         ("contains", "len", "eq", "str")),
+    ("keptways.grow.growth", "Growth"): (
+        {"net_at": "self, index", "upto": "self, index", "with_tie": "self, one, other", "with_pinch": "self, place, pairs",
+         "named": "self, names", "__init__": "self, k, growth"},
+        ("half", "first", "steps", "nets", "net", "born"),
+        ("contains", "len", "iter", "eq", "str")),
 }
 GENERATORS = (("keptways.base.lots", "lots"),)
 ERRORS = {"NetError": None, "InvalidWord": None, "InvalidNet": None, "InvalidLot": None, "InvalidWays": None,

@@ -41,6 +41,7 @@ class Numbers(Case):
             self.refused(InvalidLot, need_beside, FULL, "d", value)
             self.refused(InvalidLot, spare, FULL, "d", value)
             self.refused(InvalidLot, side_by_side, FULL, "d", value, ("q",))
+            self.refused(InvalidLot, side_by_side, FULL, "d", value, ("a",))
             self.refused(InvalidLot, side_by_side, FULL, "d", ("a",), value)
 
 

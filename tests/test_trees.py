@@ -133,6 +133,8 @@ class Trees(Case):
             self.assertIs(is_cut_tree(RING, value), False)
             self.assertIs(is_numbers_paper(RING, value), False)
         self.assertIs(is_cut_tree(RING, TREE), True)
+        self.assertIs(is_cut_tree(LOOSE, (("a", "b", 0), ("a", "c", 0), ("b", "c", 0))), False)
+        self.assertIs(is_cut_tree(LOOSE, (("a", "b", 0),)), False)
         self.assertIs(is_cut_tree(ONE, ()), True)
         self.assertIs(is_cut_tree(PAIR, ()), False)
 

@@ -104,10 +104,10 @@ def _has_no_spare(net, place, lot):
     return makes_lot(outside(net.places, (place,)), lot) and spare(net, place, lot) == 0
 
 
-def _crossing_lots(lots):
-    """The first two of these lots that have something in common, but do not lie in one another; or None."""
-    for one in lots:
-        for other in lots:
+def _crossing_lots(told):
+    """The first two of the told lots that have something in common, but do not lie in one another; or None."""
+    for one in told:
+        for other in told:
             if inside(one, other) not in ((), one, other):
                 return one, other
     return None

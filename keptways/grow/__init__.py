@@ -1,0 +1,1 @@
+"""Nets that are grown from one place."""

@@ -1,0 +1,1 @@
+"""Leading past: pairs of ties, and whole places."""
