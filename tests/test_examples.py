@@ -7,7 +7,12 @@ from keptways.base.lots import between, corners, do_cross, excesses, is_nested, 
 from keptways.base.nets import Net
 from keptways.base.words import is_integer, is_pair, is_word
 from keptways.errors import NoWay
-from keptways.grow.growth import Growth, growth_paper, holds_all, is_growth, is_thin, pinched, weak_lot
+from keptways.grow.growth import Growth, growth_paper, grown, holds_all, is_growth, is_thin, pinched, weak_lot
+from keptways.grow.halves import (balanced, crossed_lot, good_pairing, halved, is_balanced, keeps_halves, losing_pair, odd_places, pairings,
+                                  room_of)
+from keptways.grow.streets import Streets, one_way, streets_along, streets_paper
+from keptways.more.rows import ends_paper, fewest_ends, is_lots_bound, lack, lacking_lots, least_ends
+from keptways.more.ties import Plan, fewest_ties, least_price, ties_paper
 from keptways.past.pairs import is_keeping_paper, keeping_pairs, led_past, losing_lots, numbers_beside, pairs_at
 from keptways.past.whole import do_keep, is_ready, left_net, partners, whole_past
 from tests.samples import FULL, HUB, PAIR, RING, Case
@@ -62,6 +67,42 @@ class Examples(Case):
                     pinched(PAIR, "c", (("a", "b"), ("b", "b"))).ties],
                    [{('a', 'b'): 3, ('a', 'c'): 2, ('b', 'c'): 2}, '3 steps, 2 pinches', ('a', 'b', 'c'), True,
                     {('a', 'b'): 3, ('a', 'c'): 1, ('b', 'c'): 3}])
+
+    def test_streets(self):
+        growth = ("a", ("pinch", "b", (("a", "a"), ("a", "a"))), ("tie", "a", "b"), ("pinch", "c", (("a", "b"), ("a", "b"))))
+        net, arrows = grown(2, growth), streets_along(2, growth)
+        self.alike([arrows, one_way(net, arrows, "a", "b"), Streets(net, arrows).least, Streets(net, arrows).spread(),
+                    str(Streets(net, arrows).turned_at("a", "b"))],
+                   [{('a', 'b'): 1, ('a', 'c'): 2, ('b', 'a'): 2, ('c', 'b'): 2}, 3, 2, {'a': 1, 'b': -1, 'c': 0},
+                    '7 streets, 2 from each to each'])
+        self.alike([streets_paper(RING, 1)[0], streets_paper(RING, 2)[0], Streets(PAIR, {("a", "b"): 4}).rounds()],
+                   ['streets', 'lot', (('a',), ('b',))])
+
+    def test_halves(self):
+        self.alike([odd_places(FULL), good_pairing(FULL), room_of(FULL, ("a", "b")), crossed_lot(FULL, (("a", "b"), ("c", "d"))),
+                    len([one for one in pairings(FULL)])],
+                   [('a', 'b', 'c', 'd'), (('a', 'b'), ('c', 'd')), 2, None, 3])
+        self.alike([keeps_halves(FULL, halved(FULL)), odd_places(HUB), balanced(PAIR, ()), losing_pair(PAIR, {("a", "b"): 4}),
+                    is_balanced(PAIR, {("a", "b"): 2, ("b", "a"): 2}, ())],
+                   [True, ('b', 'c'), ({('a', 'b'): 2, ('b', 'a'): 2}, ()), ('b', 'a'), True])
+
+    def test_ends(self):
+        path = Net(("a", "b", "c"), {("a", "b"): 1, ("b", "c"): 1})
+        self.alike([lack(path, 2, ("a",)), lack(path, 2, ("b",)), fewest_ends(path, 2), is_lots_bound(path, 2, (2, (("a",), ("c",)))),
+                    least_ends(path, 3, ("c", "b", "a"))],
+                   [1, 0, 2, True, {'a': 2, 'b': 1, 'c': 2}])
+        self.alike([ends_paper(path, 2, {"a": 1, "b": 0, "c": 1}), ends_paper(path, 2, {"a": 1, "b": 1, "c": 1}),
+                    lacking_lots(path, 2, {"a": 1, "b": 1, "c": 0})],
+                   [('met', (('a', 'c'),)), ('odd',), (('c',),)])
+
+    def test_new_ties(self):
+        three = Net(("a", "b", "c"))
+        square = Net(("a", "b", "c", "d"), {("a", "b"): 1, ("a", "d"): 1, ("b", "c"): 1, ("c", "d"): 1})
+        self.alike([fewest_ties(three, 2), fewest_ties(RING, 3), ties_paper(three, 2), least_price(three, 3, {"a": 1, "b": 1, "c": 10})],
+                   [3, 3, ((('a', 'b'), ('a', 'c'), ('b', 'c')), (('a',), ('b',), ('c',))), 37])
+        plan = Plan(square, 3)
+        self.alike([plan.left(), plan.useful(), plan.make("a", "c"), plan.make("d", "b"), plan.made, str(plan)],
+                   [2, (('a', 'c'), ('b', 'd')), 1, 0, (('a', 'c'), ('b', 'd')), '2 made, 0 left'])
 
 
 def load_tests(_loader, tests, _pattern):

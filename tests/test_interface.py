@@ -34,9 +34,29 @@ FUNCTIONS = {
         "pinched": "net, place, pairs", "grown": "k, growth", "is_growth": "net, k, value", "holds_all": "net, least",
         "weak_lot": "net, least", "thinned": "net, k", "is_thin": "net, k", "growth_of": "net, k", "growth_paper": "net, k",
         "is_growth_paper": "net, k, value"},
+    "keptways.grow.streets": {
+        "is_streets": "net, value", "one_way": "net, streets, one, other", "one_way_paper": "net, streets, one, other",
+        "is_one_way_paper": "net, streets, one, other, value", "streets_along": "k, growth", "streets_for": "net, k",
+        "streets_paper": "net, k", "is_streets_paper": "net, k, value"},
+    "keptways.grow.halves": {
+        "odd_places": "net", "pairings": "net", "is_pairing": "net, value", "crossing": "pairing, lot", "room_of": "net, lot",
+        "is_good_pairing": "net, value", "good_pairing": "net", "crossed_lot": "net, pairing", "is_balanced": "net, streets, arrows",
+        "balanced": "net, pairing", "keeps_halves": "net, streets", "losing_pair": "net, streets", "halving_paper": "net",
+        "is_halving_paper": "net, value", "halved": "net"},
+    "keptways.more.rows": {
+        "is_ends": "net, value", "is_new_ties": "net, value", "lack": "net, fold, lot", "greatest_lacks": "net, fold",
+        "does_suffice": "net, fold, ends", "lacking_lots": "net, fold, ends", "ends_paper": "net, fold, ends",
+        "is_ends_paper": "net, fold, ends, value", "ends_of": "net, new_ties", "with_new": "net, new_ties",
+        "least_ends": "net, fold, order", "fewest_ends": "net, fold", "lots_bound": "net, fold", "is_lots_bound": "net, fold, value"},
+    "keptways.more.ties": {
+        "fewest_ties": "net, fold", "ties_paper": "net, fold", "is_ties_paper": "net, fold, value", "is_prices": "net, value",
+        "price_of": "net, prices, ends", "least_price": "net, fold, prices", "cheapest_ends": "net, fold, prices",
+        "weighing": "net, fold, prices", "is_weighing": "net, prices, value", "worth": "net, fold, prices, told",
+        "price_paper": "net, fold, prices", "is_price_paper": "net, fold, prices, value"},
 }
 CONSTANTS = {"keptways.base.words": {"MAX_LETTERS": 8}, "keptways.base.nets": {"MAX_PLACES": 9, "MAX_TIES": 60},
-             "keptways.past.whole": {"MAX_NETS": 10000}, "keptways.grow.growth": {"MAX_HALF": 30}}
+             "keptways.past.whole": {"MAX_NETS": 10000}, "keptways.grow.growth": {"MAX_HALF": 30},
+             "keptways.more.rows": {"MAX_FOLD": 9, "MAX_ENDS": 60}, "keptways.more.ties": {"MAX_PRICE": 1000}}
 # For each class its methods, its properties, and what Python's signs ask of it.
 CLASSES = {
     ("keptways.base.nets", "Net"): (
@@ -65,8 +85,17 @@ CLASSES = {
          "named": "self, names", "__init__": "self, k, growth"},
         ("half", "first", "steps", "nets", "net", "born"),
         ("contains", "len", "iter", "eq", "str")),
+    ("keptways.grow.streets", "Streets"): (
+        {"leaving": "self, lot", "coming": "self, lot", "from_to": "self, one, other", "spread": "self", "turned": "self",
+         "turned_at": "self, one, other", "turned_along": "self, way", "rounds": "self", "__init__": "self, net, streets"},
+        ("net", "arrows", "least"),
+        ("contains", "len", "iter", "eq", "str")),
+    ("keptways.more.ties", "Plan"): (
+        {"left": "self", "useful": "self", "make": "self, one, other", "take_back": "self", "__init__": "self, net, fold"},
+        ("net", "fold", "made"),
+        ("contains", "len", "iter", "eq", "str")),
 }
-GENERATORS = (("keptways.base.lots", "lots"),)
+GENERATORS = (("keptways.base.lots", "lots"), ("keptways.grow.halves", "pairings"))
 ERRORS = {"NetError": None, "InvalidWord": None, "InvalidNet": None, "InvalidLot": None, "InvalidWays": None,
           "InvalidGrowth": None, "InvalidStreets": None, "InvalidRow": None, "InvalidOperation": None,
           "ParseError": "line", "UnknownPlace": "asked", "NoWay": "ends", "NothingToUndo": "amount", "TooMany": "limit",

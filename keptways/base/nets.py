@@ -18,6 +18,14 @@ def pairs_of(places):
     return tuple([(one, other) for one in places for other in places if one < other])
 
 
+def tally(items):
+    """The dict from the different ones of these items to how often each stands among them."""
+    many = {}
+    for item in items:
+        many[item] = many.get(item, 0) + 1
+    return many
+
+
 def makes_lot(places, value):
     """Whether the value is a lot of these places."""
     return isinstance(value, tuple) and all([place in places for place in value]) and ascends(value)

@@ -1,7 +1,7 @@
 """Growths: nets that are grown from one place by ties and pinches."""
 
 from keptways.base.lots import is_proper
-from keptways.base.nets import MAX_PLACES, MAX_TIES, Net, are_names, check_net, ordered
+from keptways.base.nets import MAX_PLACES, MAX_TIES, Net, are_names, check_net, ordered, tally
 from keptways.base.words import is_integer, is_word
 from keptways.errors import InvalidGrowth, InvalidNumber, InvalidOperation, InvalidWord, NoWay
 from keptways.past.whole import steps_net, whole_past
@@ -10,7 +10,7 @@ from keptways.ways.trees import all_numbers, least_lot, least_number
 MAX_HALF = 30
 
 
-def _check_half(k):
+def check_half(k):
     """Refuse what is no k of a growth."""
     if not is_integer(k) or not 1 <= k <= MAX_HALF:
         raise InvalidNumber(k)
@@ -20,9 +20,7 @@ def _are_pinched(net, pairs):
     """Whether the value is a tuple of pairs of a pinch of the net."""
     if not isinstance(pairs, tuple) or not all([_is_pinched(net, pair) for pair in pairs]):
         return False
-    taken = {}
-    for pair in pairs:
-        taken[pair] = taken.get(pair, 0) + 1
+    taken = tally(pairs)
     return all([one == other or taken[one, other] <= net.tied(one, other) for one, other in taken])
 
 
@@ -100,7 +98,7 @@ def grown(k, growth):
 def is_growth(net, k, value):
     """Whether the value is a k-growth with this net."""
     check_net(net)
-    _check_half(k)
+    check_half(k)
     nets = _nets_along(k, value)
     return len(nets) > 0 and nets[-1] == net
 
@@ -128,7 +126,7 @@ def weak_lot(net, least):
 def thinned(net, k):
     """The net that is left when as many ties as can be are taken off, and it stays 2k-fold."""
     check_net(net)
-    _check_half(k)
+    check_half(k)
     numbers = all_numbers(net)
     for pair in numbers:
         if numbers[pair] < 2 * k:
@@ -148,7 +146,7 @@ def _loose_ties(net, k, one, other):
 def is_thin(net, k):
     """Whether the net is 2k-fold, and no net with one tie less is."""
     check_net(net)
-    _check_half(k)
+    check_half(k)
     return holds_all(net, 2 * k) and all([_loose_ties(net, k, one, other) == 0 for one, other in net.ties])
 
 
@@ -170,7 +168,7 @@ def growth_of(net, k):
 def growth_paper(net, k):
     """Any paper that shows a growth with this net, or a lot for which there is none."""
     check_net(net)
-    _check_half(k)
+    check_half(k)
     if holds_all(net, 2 * k):
         return "growth", growth_of(net, k)
     return "lot", weak_lot(net, 2 * k)
@@ -179,7 +177,7 @@ def growth_paper(net, k):
 def is_growth_paper(net, k, value):
     """Whether the value is such a paper."""
     check_net(net)
-    _check_half(k)
+    check_half(k)
     if not isinstance(value, tuple) or len(value) != 2:
         return False
     if value[0] == "growth":
@@ -198,7 +196,7 @@ class Growth:
     """A k-growth. It never changes."""
 
     def __init__(self, k, growth):
-        _check_half(k)
+        check_half(k)
         nets = _nets_along(k, growth)
         if len(nets) == 0:
             raise InvalidGrowth("there is no such growth")

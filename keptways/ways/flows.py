@@ -1,7 +1,7 @@
 """Numbers of two places, and the families and lots that show them."""
 
 from keptways.base.masks import all_cuts, common_mask, joint_mask, least_masks, lot_of, lots_of
-from keptways.base.nets import check_net, check_place, makes_lot, ordered
+from keptways.base.nets import check_net, check_place, makes_lot, ordered, tally
 from keptways.base.words import is_integer
 from keptways.errors import InvalidNumber, InvalidOperation, NoWay, UnknownPlace
 
@@ -62,31 +62,26 @@ def _shortest_way(room, one, other):
     return ways.get(other)
 
 
-def _room_left(net, one, other):
-    """For each place, how often each near place can still be gone to behind as many ways as can be."""
-    room = {place: net[place] for place in net.places}
-    way = _shortest_way(room, one, other)
+def _room_left(room, one, other):
+    """What is left of the room for steps behind as many ways as can be."""
+    left = {here: {there: room[here][there] for there in room[here]} for here in room}
+    way = _shortest_way(left, one, other)
     while way is not None:
         for here, there in zip(way, way[1:]):
-            room[here][there] = room[here][there] - 1
+            left[here][there] = left[here][there] - 1
             # A step back takes a step of an earlier way off.
-            room[there][here] = room[there][here] + 1
-        way = _shortest_way(room, one, other)
-    return room
+            left[there][here] = left[there][here] + 1
+        way = _shortest_way(left, one, other)
+    return left
 
 
-def _steps_taken(net, room):
-    """For each place, how often each near place is gone to, when this room is left."""
-    steps = {}
-    for place in room:
-        steps[place] = {near: net.tied(place, near) - room[place][near] for near in room[place]}
-    return steps
+def ways_through(room, one, other):
+    """As many ways as can be that together step from here to there at most `room[here][there]` times.
 
-
-def family(net, one, other):
-    """Any family of two places with as many ways as their number."""
-    check_ends(net, one, other)
-    steps = _steps_taken(net, _room_left(net, one, other))
+    Where there is room for a step, `room` tells that of the step back, too, be it 0.
+    """
+    left = _room_left(room, one, other)
+    steps = {here: {there: room[here][there] - left[here][there] for there in room[here]} for here in room}
     found = []
     way = _shortest_way(steps, one, other)
     while way is not None:
@@ -97,21 +92,30 @@ def family(net, one, other):
     return tuple(found)
 
 
-def _is_way(net, one, other, value):
-    """Whether the value is a tuple of different places, from one to another one."""
+def family(net, one, other):
+    """Any family of two places with as many ways as their number."""
+    check_ends(net, one, other)
+    return ways_through({place: net[place] for place in net.places}, one, other)
+
+
+def are_different(net, value):
+    """Whether the value is a tuple of two or more different places."""
     return (isinstance(value, tuple) and len(value) >= 2 and all([place in net for place in value])
-            and len(set(value)) == len(value) and value[0] == one and value[-1] == other)
+            and len(set(value)) == len(value))
+
+
+def lead_from(net, one, other, value):
+    """Whether the value is a tuple of tuples of different places, each from one place to another one."""
+    return (isinstance(value, tuple) and all([are_different(net, way) for way in value])
+            and all([way[0] == one and way[-1] == other for way in value]))
 
 
 def is_family(net, one, other, value):
     """Whether the value is a family of two places, with any number of ways."""
     check_ends(net, one, other)
-    if not isinstance(value, tuple) or not all([_is_way(net, one, other, way) for way in value]):
+    if not lead_from(net, one, other, value):
         return False
-    used = {}
-    for way in value:
-        for pair in pairs_along(way):
-            used[pair] = used.get(pair, 0) + 1
+    used = tally([pair for way in value for pair in pairs_along(way)])
     return all([used[here, there] <= net.tied(here, there) for here, there in used])
 
 

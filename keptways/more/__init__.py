@@ -1,0 +1,1 @@
+"""New ties, behind which all numbers are great enough."""
