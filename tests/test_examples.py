@@ -6,15 +6,19 @@ import unittest
 from keptways.base.lots import between, corners, do_cross, excesses, is_nested, lifted, lots, merged_row, weakest
 from keptways.base.nets import Net
 from keptways.base.words import is_integer, is_pair, is_word
-from keptways.errors import NoWay
+from keptways.errors import NoWay, Refused
 from keptways.grow.growth import Growth, growth_paper, grown, holds_all, is_growth, is_thin, pinched, weak_lot
 from keptways.grow.halves import (balanced, crossed_lot, good_pairing, halved, is_balanced, keeps_halves, losing_pair, odd_places, pairings,
                                   room_of)
 from keptways.grow.streets import Streets, one_way, streets_along, streets_paper
 from keptways.more.rows import ends_paper, fewest_ends, is_lots_bound, lack, lacking_lots, least_ends
 from keptways.more.ties import Plan, fewest_ties, least_price, ties_paper
+from keptways.more.wants import Wants, are_met, do_serve, fewest_for, first_unmet, serving_ends, short_by, wanted_cut, wants_paper
 from keptways.past.pairs import is_keeping_paper, keeping_pairs, led_past, losing_lots, numbers_beside, pairs_at
 from keptways.past.whole import do_keep, is_ready, left_net, partners, whole_past
+from keptways.text.shell import Shell
+from keptways.text.texts import is_written, read, write
+from keptways.use.project import Project
 from tests.samples import FULL, HUB, PAIR, RING, Case
 
 
@@ -103,6 +107,38 @@ class Examples(Case):
         plan = Plan(square, 3)
         self.alike([plan.left(), plan.useful(), plan.make("a", "c"), plan.make("d", "b"), plan.made, str(plan)],
                    [2, (('a', 'c'), ('b', 'd')), 1, 0, (('a', 'c'), ('b', 'd')), '2 made, 0 left'])
+
+    def test_a_live_net(self):
+        project = Project(HUB)
+        self.alike([project.pin(("least", "a", "b", 3)), project.lead("z", ("a", "b")), project.news, project.depth,
+                    project.holds(("keeps", "z", "a", "c")), project.bridges()],
+                   [None, (('a', 'z', 4, 2), ('b', 'z', 3, 2), ('c', 'z', 3, 2)), (('a', 'z', 4, 2), ('b', 'z', 3, 2), ('c', 'z', 3, 2)), 1,
+                    True, ()])
+        self.alike([project.undo(), project.weak(), str(project)],
+                   [(('a', 'z', 2, 4), ('b', 'z', 2, 3), ('c', 'z', 2, 3)),
+                    (('a', 'b'), ('a', 'c'), ('b', 'c'), ('b', 'z'), ('c', 'z')), '4 places, 1 pins, 0 changes'])
+        self.refused(Refused, project.untie, "a", "b")
+
+    def test_texts_and_a_shell(self):
+        self.alike([write("tree", (("a", "b", 3),)), write("growth", ("a", ("pinch", "b", (("a", "a"),)), ("tie", "a", "b"))),
+                    read("streets", "a>b:2 b>a:1"), write("lot", ()), is_written("ends", "b:1 a:2")],
+                   ['a-b:3', 'a b=a-a a+b', {('a', 'b'): 2, ('b', 'a'): 1}, '-', False])
+        shell = Shell()
+        self.alike(shell.run_all("show", "net b a c", "tie a b 2", "tie b c 1", "number c a", "near c a", "classes 2", "keeps b a-c",
+                                 "fewest 2", "untie a b 3", "oops", "show"),
+                   ('error InvalidOperation', 'ok', 'a-b:0:2', 'a-c:0:1 b-c:0:1', '1', 'c', 'a b; c', 'yes', '1', 'error InvalidNumber',
+                    'error ParseError', 'a b c; a b 2; b c 1'))
+
+    def test_wants(self):
+        path, three = Net(("a", "b", "c"), {("a", "b"): 2, ("b", "c"): 2}), {("a", "b"): 2, ("a", "c"): 3, ("b", "c"): 2}
+        self.alike([are_met(path, three), first_unmet(path, three), wanted_cut(path, three, ("b",)), short_by(path, three, ("a",)),
+                    fewest_for(path, three), wants_paper(path, three)[0]],
+                   [False, ('a', 'c'), 2, 1, 1, (('a', 'c'),)])
+        wants = Wants(FULL, {pair: 4 if pair == ("a", "b") else 3 for pair in FULL.pairs})
+        self.alike([str(wants), wants.short, ("a", "c") in wants, wants.lowered().fewest, serving_ends(FULL, wants.table, FULL.places),
+                    do_serve(path, three, {"a": 1, "b": 0, "c": 1})],
+                   ['6 wants, 1 new ties', (('a',), ('a', 'c', 'd'), ('b',), ('b', 'c', 'd')), True, 0, {'a': 1, 'b': 1, 'c': 0, 'd': 0},
+                    True])
 
 
 def load_tests(_loader, tests, _pattern):

@@ -53,10 +53,17 @@ FUNCTIONS = {
         "price_of": "net, prices, ends", "least_price": "net, fold, prices", "cheapest_ends": "net, fold, prices",
         "weighing": "net, fold, prices", "is_weighing": "net, prices, value", "worth": "net, fold, prices, told",
         "price_paper": "net, fold, prices", "is_price_paper": "net, fold, prices, value"},
+    "keptways.text.texts": {"write": "form, value", "read": "form, text", "is_written": "form, value"},
+    "keptways.more.wants": {
+        "is_wants": "net, value", "wanted_cut": "net, wants, lot", "short_by": "net, wants, lot", "are_met": "net, wants",
+        "first_unmet": "net, wants", "do_serve": "net, wants, ends", "serving_ends": "net, wants, order", "fewest_for": "net, wants",
+        "wants_paper": "net, wants", "is_wants_paper": "net, wants, value", "wants_ends_paper": "net, wants, ends",
+        "is_wants_ends_paper": "net, wants, ends, value"},
 }
 CONSTANTS = {"keptways.base.words": {"MAX_LETTERS": 8}, "keptways.base.nets": {"MAX_PLACES": 9, "MAX_TIES": 60},
              "keptways.past.whole": {"MAX_NETS": 10000}, "keptways.grow.growth": {"MAX_HALF": 30},
-             "keptways.more.rows": {"MAX_FOLD": 9, "MAX_ENDS": 60}, "keptways.more.ties": {"MAX_PRICE": 1000}}
+             "keptways.more.rows": {"MAX_FOLD": 9, "MAX_ENDS": 60}, "keptways.more.ties": {"MAX_PRICE": 1000},
+             "keptways.use.project": {"MAX_PINS": 20}, "keptways.more.wants": {"MAX_WANT": 9}}
 # For each class its methods, its properties, and what Python's signs ask of it.
 CLASSES = {
     ("keptways.base.nets", "Net"): (
@@ -94,6 +101,21 @@ CLASSES = {
         {"left": "self", "useful": "self", "make": "self, one, other", "take_back": "self", "__init__": "self, net, fold"},
         ("net", "fold", "made"),
         ("contains", "len", "iter", "eq", "str")),
+    ("keptways.use.project", "Project"): (
+        {"tie": "self, one, other, many=1", "untie": "self, one, other, many=1", "add": "self, place", "remove": "self, place",
+         "lead": "self, place, pair", "widen": "self, new_ties", "pin": "self, saying", "unpin": "self, saying", "holds": "self, saying",
+         "undo": "self, many=1", "redo": "self, many=1", "bridges": "self", "weak": "self", "__init__": "self, net"},
+        ("net", "pins", "depth", "news"),
+        ("contains", "len", "iter", "eq", "str")),
+    ("keptways.text.shell", "Shell"): (
+        {"run": "self, line", "run_all": "self, *lines", "__init__": "self"},
+        ("net", "past_lines"),
+        ("len", "iter", "eq", "str")),
+    ("keptways.more.wants", "Wants"): (
+        {"with_want": "self, one, other, many", "lowered": "self", "for_net": "self, net", "greater": "self, other", "lesser": "self, other",
+         "__init__": "self, net, wants"},
+        ("net", "table", "fewest", "short"),
+        ("contains", "len", "iter", "eq", "str")),
 }
 GENERATORS = (("keptways.base.lots", "lots"), ("keptways.grow.halves", "pairings"))
 ERRORS = {"NetError": None, "InvalidWord": None, "InvalidNet": None, "InvalidLot": None, "InvalidWays": None,
@@ -126,6 +148,9 @@ class Names(unittest.TestCase):
         for module, constants in CONSTANTS.items():
             for name, value in constants.items():
                 self.assertEqual((named(module, name), type(named(module, name))), (value, int))
+
+    def test_the_sign_of_nothing(self):
+        self.assertEqual(named("keptways.text.texts", "NOTHING"), "-")
 
     def test_classes_have_their_methods_themselves(self):
         for (module, name), (methods, properties, signs) in CLASSES.items():

@@ -171,11 +171,18 @@ class Names(unittest.TestCase):
 class Statements(unittest.TestCase):
 
     def test_kinds(self):
-        barred = (ast.GeneratorExp, ast.Global, ast.Nonlocal, ast.Try, ast.With, ast.Match, ast.AugAssign, ast.AnnAssign, ast.NamedExpr,
+        barred = (ast.GeneratorExp, ast.Global, ast.Nonlocal, ast.With, ast.Match, ast.AugAssign, ast.AnnAssign, ast.NamedExpr,
                   ast.YieldFrom, ast.Delete, ast.Div, ast.Pow, ast.AsyncFunctionDef, ast.Await)
         for path, node in nodes(barred):
             if not (isinstance(node, ast.Pow) and path.name == "words.py"):
                 self.fail((path, node.lineno, node))
+
+    def test_only_own_errors_are_caught(self):
+        for path, node in nodes(ast.Try):
+            self.assertFalse(node.orelse or node.finalbody, (path, node.lineno))
+            for handler in node.handlers:
+                self.assertIsNone(handler.name, (path, handler.lineno))
+                self.assertIn(handler.type.id, CLASSES, (path, handler.lineno))
 
     def test_decorators(self):
         for path, node in nodes((ast.FunctionDef, ast.ClassDef)):

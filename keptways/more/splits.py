@@ -7,6 +7,11 @@ and for that of all places. Places are told by their indices.
 from keptways.base.masks import has_place
 
 
+def half_up(many):
+    """The half of a number, rounded up."""
+    return (many + 1) // 2
+
+
 def all_sums(counts):
     """The list of the sums of the counts of the places of all lots, at the masks of the lots."""
     sums = [0]

@@ -6,19 +6,14 @@ from keptways.base.words import is_integer
 from keptways.errors import InvalidOperation, NothingToUndo
 from keptways.more.rows import all_lacks, are_counts, check_ends_of, check_fold, counts_of, ends_in_turn, fewest_ends
 from keptways.more.rows import is_ends, lacks_of_row, lots_bound, makes_fold, met_ties, row_within
-from keptways.more.splits import best_parts
+from keptways.more.splits import best_parts, half_up
 
 MAX_PRICE = 1000
 
 
-def _half_up(many):
-    """The half of a number, rounded up."""
-    return (many + 1) // 2
-
-
 def fewest_ties(net, fold):
     """The least number of new ties behind which the net is k-fold."""
-    return _half_up(fewest_ends(net, fold))
+    return half_up(fewest_ends(net, fold))
 
 
 def with_even_sum(ends, place):
@@ -39,7 +34,7 @@ def is_ties_paper(net, fold, value):
     check_fold(net, fold)
     if not isinstance(value, tuple) or len(value) != 2 or not is_row(net, value[1]):
         return False
-    return makes_fold(net, fold, value[0]) and len(value[0]) == _half_up(lacks_of_row(net, fold, value[1]))
+    return makes_fold(net, fold, value[0]) and len(value[0]) == half_up(lacks_of_row(net, fold, value[1]))
 
 
 def is_prices(net, value):
