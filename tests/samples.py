@@ -5,6 +5,15 @@ import unittest
 
 from keptways.base.nets import Net
 from keptways.errors import InvalidWord, UnknownPlace
+from keptways.grow.growth import Growth
+from keptways.grow.streets import Streets
+from keptways.more.ties import Plan
+from keptways.more.wants import Wants
+from keptways.text.shell import Shell
+from keptways.use.project import Project
+from keptways.ways.flows import Ways
+from keptways.ways.tight import Needs
+from keptways.ways.trees import CutTree
 
 FULL = Net(("a", "b", "c", "d"), {("a", "b"): 1, ("a", "c"): 1, ("a", "d"): 1, ("b", "c"): 1, ("b", "d"): 1, ("c", "d"): 1})
 RING = Net(("a", "b", "c", "d", "e"), {("a", "b"): 1, ("a", "e"): 1, ("b", "c"): 1, ("c", "d"): 1, ("d", "e"): 1})
@@ -21,12 +30,15 @@ NAMED = (FULL, RING, PAIR, HUB, ONE, LOOSE, NINE, SIXTY, CROWD)
 
 DEEP = [{"a": ([{"a": ([{"a": (1,)}],)}],)}]
 LONG_TEXT = "a b " * 2250
+# Objects of all classes but Net, which can stand where none of them is taken.
+OBJECTS = (CutTree(FULL), Growth(1, ("a",)), Needs(FULL, "a"), Plan(PAIR, 2), Project(PAIR), Shell(), Streets(ONE, {}),
+           Wants(SIXTY, {("dock", "pier"): 2}), Ways(FULL, "a", "b"))
 
 # A value of each kind that [0.4] names, none of which is a place, a number,
 # a lot, a net or a dict that anything takes.
 STRANGE = (None, True, False, -1, -(10 ** 60), 10 ** 60, 10 ** 99, "", "A", "a ", "a\n", "wordwords", "1", LONG_TEXT,
            ("A",), ("a", 1), (("a",),), (None,), ["a"], ["a", "b"], [], {"a": "B"}, {"A": 1}, {1: 2, "a": 3, (1, (2,)): None},
-           DEEP, InvalidWord("a"), UnknownPlace("a"))
+           DEEP, InvalidWord("a"), UnknownPlace("a"), *OBJECTS)
 NO_PLACES = (*STRANGE, 0, 1, (), ("a",), {}, "q", PAIR)
 NO_WORDS = (*STRANGE, 0, 1, (), ("a",), {}, PAIR)
 NO_NUMBERS = (*STRANGE, (), ("a",), {}, "q", PAIR)

@@ -80,6 +80,14 @@ class Asked(Case):
         for value in (*STRANGE, 5, (), ((),), ((), ("a",), ())):
             self.assertIs(is_one_way_paper(PAIR, {("b", "a"): 4}, "a", "b", value), False)
 
+    def test_a_street_is_gone_back_once_only(self):
+        steps = [("a", "b"), ("b", "c"), ("c", "h"), ("a", "d"), ("d", "c"), ("a", "e"), ("e", "c"), ("b", "f"), ("f", "h"), ("b", "g"), ("g", "h")]
+        net = Net(tuple("abcdefgh"), looks.counted(steps))
+        streets = looks_along.counted_steps(steps)
+        paper = one_way_paper(net, streets, "a", "h")
+        self.alike((one_way(net, streets, "a", "h"), len(paper[0])), (2, 2))
+        self.assertTrue(looks_along.right_one_way_paper(net, streets, "a", "h", paper))
+
     def test_bent_one_way_papers(self):
         for net, streets in MADE[8:14]:
             for one, other in net.pairs[:2]:
