@@ -61,7 +61,8 @@ class Paired(Case):
 
     def test_no_crossing(self):
         for value in (*STRANGE, 1, "q", ("a", "b"), (("b", "a"),), (("a", "a"),), (("c", "d"), ("a", "b")), (("a", "b"), ("a", "c")),
-                      (("a", "c"), ("b", "c")), (("a", "b"), ("a", "b")), [("a", "b")], (["a", "b"],), (("A", "b"),), (("a", "b"), ("c",)), FULL):
+                      (("a", "c"), ("b", "c")), (("a", "b"), ("a", "b")), [("a", "b")], (["a", "b"],), (("A", "b"),),
+                      (("a", "b"), ("c",)), FULL):
             self.refused(InvalidRow, crossing, value, None)
         for value in (*STRANGE, 1, "ab", ("b", "a"), ("a", "a"), ["a"], ("a", 1), ("a", "B"), {"a": 1}, FULL, (("a",),)):
             self.refused(InvalidLot, crossing, (("a", "b"),), value)
@@ -141,14 +142,16 @@ class Balanced(Case):
         streets = {("a", "b"): 2, ("b", "c"): 1}
         for value in NO_STREETS:
             self.refused(InvalidStreets, is_balanced, TRIO, value, None)
-        for value in (*STRANGE, (), ("b", "c"), (("a", "b"),), (("b", "b"),), (("b", "c"), ("c", "b")), [("b", "c")], (["b", "c"],), (("b", "c", "b"),),
+        for value in (*STRANGE, (), ("b", "c"), (("a", "b"),), (("b", "b"),), (("b", "c"), ("c", "b")), [("b", "c")], (["b", "c"],),
+                      (("b", "c", "b"),),
                       (("b", "q"),), (("b",),), 1, "q", TRIO, (("b", None),)):
             self.refused(InvalidRow, is_balanced, TRIO, streets, value)
         self.refused(InvalidRow, is_balanced, FULL, looks_along.drawn_streets(FULL, 1), (("c", "d"), ("a", "b")))
         self.refused(InvalidRow, is_balanced, FULL, looks_along.drawn_streets(FULL, 1), ())
 
     def test_losing_pairs(self):
-        self.alike((losing_pair(PAIR, {("a", "b"): 4}), losing_pair(PAIR, {("b", "a"): 4}), losing_pair(PAIR, {("a", "b"): 3, ("b", "a"): 1})),
+        self.alike((losing_pair(PAIR, {("a", "b"): 4}), losing_pair(PAIR, {("b", "a"): 4}), losing_pair(PAIR,
+                                                                                                        {("a", "b"): 3, ("b", "a"): 1})),
                    (("b", "a"), ("a", "b"), ("b", "a")))
         self.alike((losing_pair(ONE, {}), losing_pair(LOOSE, {}), losing_pair(TRIO, {("a", "b"): 1, ("b", "a"): 1, ("c", "b"): 1})),
                    (None, None, None))

@@ -29,12 +29,14 @@ class Told(Case):
 
     def test_properties(self):
         plan = made()
-        self.alike((plan.net.lines, plan.fold, plan.made), (("a b c d", "a b 2", "a d 1", "b c 1", "b d 1", "c d 1"), 3, (("b", "d"), ("a", "b"))))
+        self.alike((plan.net.lines, plan.fold, plan.made), (("a b c d", "a b 2", "a d 1", "b c 1", "b d 1", "c d 1"), 3,
+                                                            (("b", "d"), ("a", "b"))))
         plan = Plan(SQUARE, 9)
         self.alike((plan.net.lines, plan.fold, plan.made), (SQUARE.lines, 9, ()))
 
     def test_left(self):
-        self.alike((Plan(SQUARE, 3).left(), made().left(), Plan(ONE, 9).left(), Plan(SIXTY, 9).left(), Plan(NINE, 9).left()), (2, 1, 0, 0, 41))
+        self.alike((Plan(SQUARE, 3).left(), made().left(), Plan(ONE, 9).left(), Plan(SIXTY, 9).left(), Plan(NINE, 9).left()),
+                   (2, 1, 0, 0, 41))
         for net in SMALL[:40]:
             for fold in (2, 5, 9):
                 self.alike(Plan(net, fold).left(), fewest_ties(net, fold))

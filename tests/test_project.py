@@ -10,16 +10,22 @@ from keptways.past.pairs import led_past
 from keptways.more.rows import with_new
 from keptways.use.project import Project
 from tests import looks, looks_new
-from tests.samples import (ALL, CROWD, FULL, HUB, LOOSE, NINE, NO_NETS, NO_NUMBERS, NO_PLACES, NO_WORDS, ONE, PAIR, RING, SIXTY, SMALL, STRANGE, Case)
+from tests.samples import (ALL, CROWD, FULL, HUB, LOOSE, NINE, NO_NETS, NO_NUMBERS, NO_PLACES, NO_WORDS, ONE, PAIR, RING, SIXTY, SMALL,
+                           STRANGE, Case)
 from tests.test_rows import NO_NEW_TIES, PATH
 
-NO_SAYINGS = (*STRANGE, 1, (), "least", ("least",), ("least", "a", "b"), ("least", "a", "b", 61), ("least", "a", "b", -1), ("least", "a", "b", True),
+NO_SAYINGS = (*STRANGE, 1, (), "least", ("least",), ("least", "a", "b"), ("least", "a", "b", 61), ("least", "a", "b", -1),
+              ("least", "a", "b", True),
               ("least", "b", "a", 1), ("least", "a", "a", 0), ("least", "a", "B", 1), ("least", "a", "b", 1, 1), ["least", "a", "b", 1],
-              ("least", ("a", "b"), 1), ("least", "a", "b", "1"), ("least", "a", "b", None), ("fold",), ("fold", 61), ("fold", -1), ("fold", True),
+              ("least", ("a", "b"), 1), ("least", "a", "b", "1"), ("least", "a", "b", None), ("fold",), ("fold", 61), ("fold", -1),
+              ("fold", True),
               ("fold", "1"), ("fold", 1, 1), ["fold", 1], ("ready",), ("ready", "A"), ("ready", 1), ("ready", "a", "b"), ("ready", ("a",)),
-              ("keeps",), ("keeps", "a", "b"), ("keeps", "a", ("b", "c")), ("keeps", "a", "b", "C"), ("keeps", "a", "b", 1), ("keeps", "a", "b", "c", "d"),
-              ("new",), ("new", 2), ("new", 1, 1), ("new", 10, 1), ("new", True, 1), ("new", 2, 61), ("new", 2, -1), ("new", 2, True), ("new", 2, 1, 1),
-              ("new", "a", 1), ("Fold", 1), ("old", 1), ("old", 2, 60), ("new ", 2, 60), ("keeps", "A", "b", "c"), ("keeps", 1, "b", "c"), (None, 1), (FULL, 1), FULL, {"fold": 1}, ("fold", 10 ** 60), ("fold", [1]), ("ready", []))
+              ("keeps",), ("keeps", "a", "b"), ("keeps", "a", ("b", "c")), ("keeps", "a", "b", "C"), ("keeps", "a", "b", 1),
+              ("keeps", "a", "b", "c", "d"),
+              ("new",), ("new", 2), ("new", 1, 1), ("new", 10, 1), ("new", True, 1), ("new", 2, 61), ("new", 2, -1), ("new", 2, True),
+              ("new", 2, 1, 1),
+              ("new", "a", 1), ("Fold", 1), ("old", 1), ("old", 2, 60), ("new ", 2, 60), ("keeps", "A", "b", "c"), ("keeps", 1, "b", "c"),
+              (None, 1), (FULL, 1), FULL, {"fold": 1}, ("fold", 10 ** 60), ("fold", [1]), ("ready", []))
 
 
 def state(project):
@@ -53,7 +59,8 @@ def drawn_sayings(net, seed, many):
     for _ in range(many):
         two = tuple(sorted(draw.sample(words, 2)))
         found.append(draw.choice((("least", *two, draw.randint(0, 4)), ("fold", draw.randint(0, 4)), ("ready", draw.choice(words)),
-                                  ("keeps", draw.choice(words), *sorted(draw.choices(words, k=2))), ("new", draw.randint(2, 4), draw.randint(0, 9)))))
+                                  ("keeps", draw.choice(words), *sorted(draw.choices(words, k=2))),
+                                  ("new", draw.randint(2, 4), draw.randint(0, 9)))))
     return found
 
 
@@ -65,7 +72,8 @@ class Told(Case):
         self.alike((project.pins, project.depth, project.news), ((), 0, ()))
         project.pin(("fold", 2))
         project.tie("a", "b", 2)
-        self.alike((project.net.tied("a", "b"), project.pins, project.depth, project.news), (3, (("fold", 2),), 1, news_between(HUB, project.net)))
+        self.alike((project.net.tied("a", "b"), project.pins, project.depth, project.news), (3, (("fold", 2),), 1,
+                                                                                             news_between(HUB, project.net)))
         self.alike(project.news, (("a", "b", 3, 5), ("b", "z", 3, 4)))
 
     def test_refused(self):
@@ -73,8 +81,10 @@ class Told(Case):
             self.refused(InvalidNet, Project, value)
 
     def test_bridges_and_weak_pairs(self):
-        for net, bridges, weak in ((ONE, (), ()), (LOOSE, (), LOOSE.pairs), (PATH, PATH.pairs[::2], PATH.pairs), (RING, (), RING.pairs), (PAIR, (), (("a", "b"),)),
-                                   (Net(("a", "b", "c", "d"), {("a", "b"): 1, ("c", "d"): 2}), (("a", "b"),), (("a", "c"), ("a", "d"), ("b", "c"), ("b", "d")))):
+        for net, bridges, weak in ((ONE, (), ()), (LOOSE, (), LOOSE.pairs), (PATH, PATH.pairs[::2], PATH.pairs), (RING, (), RING.pairs),
+                                   (PAIR, (), (("a", "b"),)),
+                                   (Net(("a", "b", "c", "d"), {("a", "b"): 1, ("c", "d"): 2}), (("a", "b"),),
+                                    (("a", "c"), ("a", "d"), ("b", "c"), ("b", "d")))):
             project = Project(net)
             self.alike((project.bridges(), project.weak()), (bridges, weak))
         for net in ALL[:60]:
@@ -101,7 +111,8 @@ class Told(Case):
             self.assertIs(saying in project, False)
             project.pin(saying)
             self.assertIs(saying in project, True)
-        for value in (*NO_SAYINGS, ("fold", 2), ("fold", 0), ("ready", "b"), ("fold", True), ["fold", 1], ("least", "a", "b", 1), "a", project.pins, RING):
+        for value in (*NO_SAYINGS, ("fold", 2), ("fold", 0), ("ready", "b"), ("fold", True), ["fold", 1], ("least", "a", "b", 1), "a",
+                      project.pins, RING):
             self.assertIs(value in project, False)
         project.unpin(("fold", 1))
         self.assertIs(("fold", 1) in project, False)
@@ -147,7 +158,8 @@ class Changed(Case):
         return news
 
     def test_changes(self):
-        self.alike(self.changed(HUB, "lead", ("z", ("a", "b")), led_past(HUB, "z", ("a", "b"))), (("a", "z", 4, 2), ("b", "z", 3, 2), ("c", "z", 3, 2)))
+        self.alike(self.changed(HUB, "lead", ("z", ("a", "b")), led_past(HUB, "z", ("a", "b"))),
+                   (("a", "z", 4, 2), ("b", "z", 3, 2), ("c", "z", 3, 2)))
         for net in (*SMALL[:30], ONE, PAIR, NINE):
             for one, other in net.pairs[:4]:
                 self.changed(net, "tie", (other, one), net.joined(one, other))
@@ -212,7 +224,8 @@ class Changed(Case):
 
     def test_a_pin_that_a_change_would_break(self):
         project = Project(HUB)
-        for saying in (("ready", "z"), ("least", "b", "c", 3), ("fold", 2), ("new", 3, 0), ("least", "a", "b", 3), ("keeps", "z", "a", "b")):
+        for saying in (("ready", "z"), ("least", "b", "c", 3), ("fold", 2), ("new", 3, 0), ("least", "a", "b", 3),
+                       ("keeps", "z", "a", "b")):
             project.pin(saying)
         project.tie("b", "c", 3)
         project.undo()
@@ -240,7 +253,8 @@ class Pinned(Case):
 
     def test_all_kinds_in_order(self):
         project = Project(HUB)
-        sayings = [("ready", "z"), ("new", 4, 60), ("least", "b", "c", 3), ("keeps", "z", "a", "c"), ("fold", 3), ("least", "a", "z", 4), ("new", 3, 0),
+        sayings = [("ready", "z"), ("new", 4, 60), ("least", "b", "c", 3), ("keeps", "z", "a", "c"), ("fold", 3), ("least", "a", "z", 4),
+                   ("new", 3, 0),
                    ("fold", 0), ("ready", "a"), ("keeps", "z", "a", "b"), ("least", "b", "c", 0)]
         for saying in sayings:
             self.assertIsNone(project.pin(saying))
@@ -277,12 +291,14 @@ class Pinned(Case):
             self.refused(InvalidOperation, project.pin, value)
             self.refused(InvalidOperation, project.unpin, value)
             self.refused(InvalidOperation, project.holds, value)
-        for saying, place in ((("least", "a", "q", 0), "q"), (("least", "k", "q", 0), "k"), (("ready", "dock"), "dock"), (("keeps", "z", "x", "q"), "x"),
+        for saying, place in ((("least", "a", "q", 0), "q"), (("least", "k", "q", 0), "k"), (("ready", "dock"), "dock"),
+                              (("keeps", "z", "x", "q"), "x"),
                               (("keeps", "q", "x", "a"), "q"), (("keeps", "z", "a", "y"), "y")):
             self.alike(self.refused(UnknownPlace, project.pin, saying).asked, place)
             self.alike(self.refused(UnknownPlace, project.holds, saying).asked, place)
             self.refused(InvalidOperation, project.unpin, saying)
-        for saying in (("least", "a", "b", 4), ("fold", 4), ("keeps", "z", "b", "c"), ("keeps", "z", "b", "a"), ("keeps", "a", "a", "b"), ("new", 4, 0)):
+        for saying in (("least", "a", "b", 4), ("fold", 4), ("keeps", "z", "b", "c"), ("keeps", "z", "b", "a"), ("keeps", "a", "a", "b"),
+                       ("new", 4, 0)):
             self.alike(self.refused(Refused, project.pin, saying).cause, saying)
             self.assertIs(project.holds(saying), False)
         self.refused(Refused, Project(PATH).pin, ("ready", "b"))
@@ -315,11 +331,13 @@ class Undone(Case):
         for back, at in ((1, 4), (2, 2), (1, 1)):
             old = project.net
             told = project.undo(back)
-            self.alike((project.net.lines, told, project.news, project.depth), (nets[at].lines,) + (news_between(old, nets[at]),) * 2 + (at,))
+            self.alike((project.net.lines, told, project.news, project.depth), (nets[at].lines,) + (news_between(old, nets[at]),
+                                                                                                    ) * 2 + (at,))
         for forth, at in ((1, 2), (3, 5)):
             old = project.net
             told = project.redo(forth)
-            self.alike((project.net.lines, told, project.news, project.depth), (nets[at].lines,) + (news_between(old, nets[at]),) * 2 + (at,))
+            self.alike((project.net.lines, told, project.news, project.depth), (nets[at].lines,) + (news_between(old, nets[at]),
+                                                                                                    ) * 2 + (at,))
         self.alike(project.undo(), news_between(nets[5], nets[4]))
         self.alike(project.redo(), news_between(nets[4], nets[5]))
         self.alike(project.undo(many=5), news_between(nets[5], PATH))
@@ -422,8 +440,10 @@ class Undone(Case):
                 name = draw.choice(("tie", "untie", "add", "remove", "lead", "widen", "undo", "redo", "pin", "unpin"))
                 words = [*net.places, "n", "m"]
                 given = {"tie": lambda: (*draw.sample(words, 2), draw.randint(0, 3)), "untie": lambda: tuple(draw.sample(words, 2)),
-                         "add": lambda: (draw.choice("nmo"),), "remove": lambda: (draw.choice(words),), "undo": lambda: (draw.randint(0, 2),),
-                         "redo": lambda: (draw.randint(0, 2),), "lead": lambda: (draw.choice(words), tuple(sorted(draw.choices(words, k=2)))),
+                         "add": lambda: (draw.choice("nmo"),), "remove": lambda: (draw.choice(words),),
+                         "undo": lambda: (draw.randint(0, 2),),
+                         "redo": lambda: (draw.randint(0, 2),), "lead": lambda: (draw.choice(words),
+                                                                                 tuple(sorted(draw.choices(words, k=2)))),
                          "widen": lambda: (tuple(sorted(tuple(sorted(draw.choices(net.places, k=2))) for _ in range(2))),),
                          "pin": lambda: (draw.choice(drawn_sayings(net, draw.random(), 1)),),
                          "unpin": lambda: (draw.choice([*pins, ("fold", 1)]),)}[name]()

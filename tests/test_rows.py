@@ -9,19 +9,25 @@ from keptways.errors import InvalidLot, InvalidNet, InvalidNumber, InvalidOperat
 from keptways.more.rows import (does_suffice, ends_of, ends_paper, fewest_ends, greatest_lacks, is_ends, is_ends_paper, is_lots_bound,
                                 is_new_ties, lack, lacking_lots, least_ends, lots_bound, with_new)
 from tests import looks, looks_new
-from tests.samples import (ALL, CROWD, FULL, HUB, LETTERS, LOOSE, NINE, NO_LOTS, NO_NETS, NO_NUMBERS, ONE, PAIR, RING, SIXTY, SMALL, STRANGE,
+from tests.samples import (ALL, CROWD, FULL, HUB, LETTERS, LOOSE, NINE, NO_LOTS, NO_NETS, NO_NUMBERS, ONE, PAIR, RING, SIXTY, SMALL,
+                           STRANGE,
                            Case)
 
 PATH = Net(("a", "b", "c"), {("a", "b"): 1, ("b", "c"): 1})
 FOLDS = range(2, 10)
 NO_FOLDS = (*NO_NUMBERS, 0, 1, 10, 10 ** 60 - 1)
-NO_ENDS = (*STRANGE, 0, 1, (), "q", PATH, {"a": 1, "b": 1}, {"a": 1, "b": 1, "c": 1, "d": 1}, {"a": 1, "b": 1, "d": 1}, {"a": 1, "b": 1, "c": -1},
+NO_ENDS = (*STRANGE, 0, 1, (), "q", PATH, {"a": 1, "b": 1}, {"a": 1, "b": 1, "c": 1, "d": 1}, {"a": 1, "b": 1, "d": 1},
+           {"a": 1, "b": 1, "c": -1},
            {"a": 1, "b": 1, "c": 61}, {"a": 1, "b": 1, "c": True}, {"a": 1, "b": 1, "c": None}, {"a": 1, "b": 1, "c": "1"},
-           {"a": 1, "b": 1, "c": 10 ** 60}, (("a", 1), ("b", 1), ("c", 1)), [1, 1, 1], {"a": 1, "b": 1, (1, (2,)): 1}, {"a": [1], "b": 1, "c": 1})
-NO_NEW_TIES = (*STRANGE, 1, "ab", ("a", "b"), (("b", "a"),), (("a", "b"), ("a", "a")), (("b", "c"), ("a", "b")), [("a", "b")], (["a", "b"],),
-               (("a", "q"),), (("q", "q"),), (("a", "b", "c"),), (("a",),), (("a", "b"), None), {("a", "b"): 1}, (("a", 1),), ((True, True),), PATH)
+           {"a": 1, "b": 1, "c": 10 ** 60}, (("a", 1), ("b", 1), ("c", 1)), [1, 1, 1], {"a": 1, "b": 1, (1, (2,)): 1},
+           {"a": [1], "b": 1, "c": 1})
+NO_NEW_TIES = (*STRANGE, 1, "ab", ("a", "b"), (("b", "a"),), (("a", "b"), ("a", "a")), (("b", "c"), ("a", "b")), [("a", "b")],
+               (["a", "b"],),
+               (("a", "q"),), (("q", "q"),), (("a", "b", "c"),), (("a",),), (("a", "b"), None), {("a", "b"): 1}, (("a", 1),),
+               ((True, True),), PATH)
 TINY = [net for net in (PATH, PAIR, LOOSE, FULL, HUB, *SMALL) if 2 <= len(net) <= 4][:24]
-HALF_FULL = Net(tuple(LETTERS), looks.counted([(one, other) for one, other in NINE.pairs if "i" not in (one, other)] * 2 + [("a", "b")] * 4))
+HALF_FULL = Net(tuple(LETTERS), looks.counted([(one, other) for one, other in NINE.pairs if "i" not in (one, other)] * 2 + [("a",
+                                                                                                                             "b")] * 4))
 
 
 def drawn_ends(net, seed, most):
@@ -95,7 +101,8 @@ class Ends(Case):
 
     def test_no_folds(self):
         for call, more in ((lack, (None,)), (greatest_lacks, ()), (does_suffice, (None,)), (lacking_lots, (None,)), (ends_paper, (None,)),
-                           (is_ends_paper, (None, None)), (least_ends, (None,)), (fewest_ends, ()), (lots_bound, ()), (is_lots_bound, (None,))):
+                           (is_ends_paper, (None, None)), (least_ends, (None,)), (fewest_ends, ()), (lots_bound, ()),
+                           (is_lots_bound, (None,))):
             for value in NO_FOLDS:
                 self.alike(self.refused(InvalidNumber, call, PATH, value, *more).number, value)
 
@@ -176,8 +183,10 @@ class Papers(Case):
         for new_ties in ((("a", "b"), ("a", "c"), ("b", "c")), (("a", "c"), ("a", "c"), ("b", "b"))):
             self.assertIs(is_ends_paper(PATH, 2, ends, ("met", new_ties)), True)
         for value in (("met", (("a", "a"), ("b", "b"), ("c", "c"))), ("met", (("a", "a"), ("b", "c"), ("b", "c"))), ("met", (("a", "c"),)),
-                      ("met", (("a", "b"), ("b", "c"), ("a", "c"))), ("met", (("a", "b"), ("a", "c"), ("b", "c"), ("c", "c"))), ("odd",), ("odd", ()),
-                      ("lacks", ("a",)), ("lacks", ()), ("met", None), ("met",), ["met", (("a", "b"), ("a", "c"), ("b", "c"))], "odd", ("Odd",)):
+                      ("met", (("a", "b"), ("b", "c"), ("a", "c"))), ("met", (("a", "b"), ("a", "c"), ("b", "c"), ("c", "c"))), ("odd",),
+                      ("odd", ()),
+                      ("lacks", ("a",)), ("lacks", ()), ("met", None), ("met",), ["met", (("a", "b"), ("a", "c"), ("b", "c"))], "odd",
+                      ("Odd",)):
             self.assertIs(is_ends_paper(PATH, 2, ends, value), False, value)
         for value in (*STRANGE, 5, (), (None, None), PATH):
             self.assertIs(is_ends_paper(PATH, 2, ends, value), False)
@@ -227,12 +236,14 @@ class Fewest(Case):
                     self.alike(sum(ends.values()), fewest_ends(net, fold))
 
     def test_no_orders(self):
-        for value in (*STRANGE, 1, (), ("a", "b"), ("a", "b", "b"), ("a", "b", "c", "c"), ("a", "b", "c", "d"), ["a", "b", "c"], "abc", ("a", "b", "q"),
+        for value in (*STRANGE, 1, (), ("a", "b"), ("a", "b", "b"), ("a", "b", "c", "c"), ("a", "b", "c", "d"), ["a", "b", "c"], "abc",
+                      ("a", "b", "q"),
                       {"a": 1, "b": 2, "c": 3}, (("a",), ("b",), ("c",)), ("a", "b", None), PATH):
             self.refused(InvalidOperation, least_ends, PATH, 2, value)
 
     def test_fewest_ends(self):
-        self.alike((fewest_ends(PATH, 2), fewest_ends(ONE, 9), fewest_ends(SIXTY, 9), fewest_ends(NINE, 9), fewest_ends(LOOSE, 2)), (2, 0, 0, 81, 6))
+        self.alike((fewest_ends(PATH, 2), fewest_ends(ONE, 9), fewest_ends(SIXTY, 9), fewest_ends(NINE, 9), fewest_ends(LOOSE, 2)),
+                   (2, 0, 0, 81, 6))
         for net in TINY:
             for fold in (2, 3, 4):
                 told = looks_new.lacks(net, fold)
@@ -267,7 +278,8 @@ class Fewest(Case):
                     self.assertIs(is_lots_bound(net, fold, (looks_new.row_sum(told, row), row)), looks_new.row_sum(told, row) == least)
         for bent in looks.bends((2, (("a",), ("c",)))):
             self.assertIs(is_lots_bound(PATH, 2, bent), self.right_bound(bent), bent)
-        for value in (*STRANGE, 2, (), (2,), (2, ()), (2, None), (0, ()), [2, (("a",), ("c",))], (2, [("a",), ("c",)]), (2, (("a",), ("a", "b"))), PATH):
+        for value in (*STRANGE, 2, (), (2,), (2, ()), (2, None), (0, ()), [2, (("a",), ("c",))], (2, [("a",), ("c",)]),
+                      (2, (("a",), ("a", "b"))), PATH):
             self.assertIs(is_lots_bound(PATH, 2, value), False)
         self.assertIs(is_lots_bound(PAIR, 2, (0, ())), True)
         self.assertIs(is_lots_bound(PAIR, 2, (False, ())), False)

@@ -19,8 +19,10 @@ from tests import looks, looks_new
 from tests.samples import ALL, CROWD, FULL, HUB, LOOSE, NINE, ONE, PAIR, RING, SIXTY, SMALL, STRANGE, Case
 from tests.test_project import news_between
 
-COMMANDS = {"net": "PP", "tie": "PPN", "untie": "PPN", "add": "P", "remove": "P", "lead": "PA", "widen": "L", "undo": "N", "redo": "N", "pin": "PPN",
-            "show": "", "number": "PP", "near": "PP", "far": "PP", "ways": "PP", "tree": "", "classes": "N", "keeps": "PA", "pairs": "P", "past": "P",
+COMMANDS = {"net": "PP", "tie": "PPN", "untie": "PPN", "add": "P", "remove": "P", "lead": "PA", "widen": "L", "undo": "N", "redo": "N",
+            "pin": "PPN",
+            "show": "", "number": "PP", "near": "PP", "far": "PP", "ways": "PP", "tree": "", "classes": "N", "keeps": "PA", "pairs": "P",
+            "past": "P",
             "grown": "N", "growth": "N", "streets": "N", "halves": "", "fewest": "N", "new": "N"}
 SAMPLE = {"P": "a", "N": "1", "A": "a-b", "L": "a-b"}
 OTHER = {"P": ("A", "a-b", "1", "", "-", "abcdefghi", "a,", "a\n", "a\tb"),
@@ -44,7 +46,8 @@ class Commands(Case):
 
     def test_changes(self):
         shell = Shell()
-        self.alike(shell.run_all("net b a c", "tie a b 2", "tie c b 1", "untie a b 1", "add d", "tie d a 3", "remove c", "undo 2", "redo 1", "undo 0"),
+        self.alike(shell.run_all("net b a c", "tie a b 2", "tie c b 1", "untie a b 1", "add d", "tie d a 3", "remove c", "undo 2",
+                                 "redo 1", "undo 0"),
                    ("ok", "a-b:0:2", "a-c:0:1 b-c:0:1", "a-b:2:1", "-", "a-d:0:3 b-d:0:1 c-d:0:1", "-", "a-d:3:0 b-d:1:0",
                     "a-d:0:3 b-d:0:1 c-d:0:1", "-"))
         self.alike(shell.run_all("lead a b-d", "widen -", "undo 1", "widen a-a a-b a-b b-d", "show"),
@@ -57,7 +60,8 @@ class Commands(Case):
             shell = shell_of(net)
             self.assertTrue(shell.net == net)
             one, other = net.places[:2]
-            for line, made in ((f"tie {other} {one} 2", net.joined(one, other, 2)), ("add zz", net.with_place("zz")), (f"remove {one}", net.without_place(one)),
+            for line, made in ((f"tie {other} {one} 2", net.joined(one, other, 2)), ("add zz", net.with_place("zz")),
+                               (f"remove {one}", net.without_place(one)),
                                (f"widen {one}-{other} {one}-{other}", with_new(net, ((one, other),) * 2))):
                 told = news_between(net, made)
                 self.alike(shell.run(line), " ".join(f"{here}-{there}:{old}:{new}" for here, there, old, new in told) or "-")
@@ -69,27 +73,33 @@ class Commands(Case):
     def test_lead_and_widen(self):
         shell = shell_of(HUB)
         self.alike(shell.run("lead z a-b"), "a-z:4:2 b-z:3:2 c-z:3:2")
-        self.alike(shell.run_all("undo 1", "redo 1", "show"), ("a-z:2:4 b-z:2:3 c-z:2:3", "a-z:4:2 b-z:3:2 c-z:3:2", "a b c z; a b 2; a c 1; a z 1; b c 1; c z 1"))
+        self.alike(shell.run_all("undo 1", "redo 1", "show"), ("a-z:2:4 b-z:2:3 c-z:2:3", "a-z:4:2 b-z:3:2 c-z:3:2",
+                                                               "a b c z; a b 2; a c 1; a z 1; b c 1; c z 1"))
         self.alike(shell.run_all("lead z a-a", "lead a z-z", "lead q a-b", "widen b-c a-b", "widen a-q", "widen a-b a-b a-b"),
-                   ("error InvalidOperation", "error InvalidOperation", "error UnknownPlace", "error InvalidOperation", "error InvalidOperation", "a-b:3:6"))
+                   ("error InvalidOperation", "error InvalidOperation", "error UnknownPlace", "error InvalidOperation",
+                    "error InvalidOperation", "a-b:3:6"))
 
     def test_pins(self):
         shell = shell_of(HUB)
-        self.alike(shell.run_all("pin b a 3", "pin a z 5", "pin a a 0", "pin a b 61", "pin a q 0", "pin z c 3", "untie a b 1", "add d", "add d", "undo 1", "show"),
-                   ("ok", "error Refused", "error InvalidOperation", "error InvalidOperation", "error UnknownPlace", "ok", "error Refused", "-",
+        self.alike(shell.run_all("pin b a 3", "pin a z 5", "pin a a 0", "pin a b 61", "pin a q 0", "pin z c 3", "untie a b 1", "add d",
+                                 "add d", "undo 1", "show"),
+                   ("ok", "error Refused", "error InvalidOperation", "error InvalidOperation", "error UnknownPlace", "ok",
+                    "error Refused", "-",
                     "error InvalidNet", "-", "a b c z; a b 1; a c 1; a z 2; b c 1; b z 1; c z 1"))
         pair = shell_of(SIXTY)
         answers = pair.run_all(*[f"pin dock pier {many}" for many in range(22)], "pin pier dock 5")
         self.alike(answers, ("ok",) * 20 + ("error TooMany",) * 2 + ("ok",))
         # A new net has no pins.
-        self.alike(pair.run_all("net dock pier", "untie dock pier 0", "pin dock pier 0", "pin dock pier 1"), ("ok", "-", "ok", "error Refused"))
+        self.alike(pair.run_all("net dock pier", "untie dock pier 0", "pin dock pier 0", "pin dock pier 1"),
+                   ("ok", "-", "ok", "error Refused"))
 
     def test_lots_and_ways(self):
         for net in (*SMALL[:25], CROWD, SIXTY):
             shell = shell_of(net)
             for one, other in net.pairs[:3]:
                 self.alike(shell.run_all(f"number {other} {one}", f"near {other} {one}", f"far {other} {one}"),
-                           (str(looks.number(net, one, other)), " ".join(nearest_lot(net, other, one)), " ".join(farthest_lot(net, other, one))))
+                           (str(looks.number(net, one, other)), " ".join(nearest_lot(net, other, one)),
+                            " ".join(farthest_lot(net, other, one))))
                 ways = read("ways", shell.run(f"ways {other} {one}"))
                 self.assertTrue(is_family(net, other, one, ways) and len(ways) == looks.number(net, one, other))
             self.assertTrue(is_cut_tree(net, read("tree", shell.run("tree"))))
@@ -106,15 +116,18 @@ class Commands(Case):
     def test_leading_past(self):
         shell = shell_of(HUB)
         self.alike(shell.run_all("keeps z a-b", "keeps z b-c", "keeps z b-b", "keeps q a-b", "pairs z", "pairs b", "pairs q", "past b"),
-                   ("yes", "no", "error InvalidOperation", "error UnknownPlace", "a-b a-c", write("pairs", tuple(pair for pair in looks.pairs_at(HUB, "b") if looks.does_keep(HUB, "b", pair))),
+                   ("yes", "no", "error InvalidOperation", "error UnknownPlace", "a-b a-c", write("pairs",
+                                                                                                  tuple(pair for pair in looks.pairs_at(HUB, "b") if looks.does_keep(HUB, "b", pair))),
                     "error UnknownPlace", "error NoWay"))
         self.assertTrue(is_whole_past(HUB, "z", read("pairs", shell.run("past z"))))
         self.alike(shell.run("past q"), "error UnknownPlace")
 
     def test_growths_and_streets(self):
         shell = shell_of(RING)
-        self.alike(shell.run_all("grown 0", "grown 1", "grown 2", "grown 99", "growth 0", "growth 2", "growth 31", "streets 0", "streets 2", "streets 31"),
-                   ("yes", "yes", "no", "no", "error InvalidNumber", "error NoWay", "error InvalidNumber", "error InvalidNumber", "error NoWay", "error InvalidNumber"))
+        self.alike(shell.run_all("grown 0", "grown 1", "grown 2", "grown 99", "growth 0", "growth 2", "growth 31", "streets 0",
+                                 "streets 2", "streets 31"),
+                   ("yes", "yes", "no", "no", "error InvalidNumber", "error NoWay", "error InvalidNumber", "error InvalidNumber",
+                    "error NoWay", "error InvalidNumber"))
         self.assertTrue(is_growth(RING, 1, read("growth", shell.run("growth 1"))))
         self.assertTrue(is_streets_paper(RING, 1, ("streets", read("streets", shell.run("streets 1")))))
         for net in (*SMALL[:25], CROWD, SIXTY):
@@ -140,12 +153,15 @@ class Commands(Case):
 
     def test_histories(self):
         shell = shell_of(PAIR)
-        self.alike(shell.run_all("undo 2", "redo 2", "undo 1", "redo 1", "redo 1"), ("error NothingToUndo", "error NothingToUndo", "a-b:4:0", "a-b:0:4", "error NothingToUndo"))
+        self.alike(shell.run_all("undo 2", "redo 2", "undo 1", "redo 1", "redo 1"), ("error NothingToUndo", "error NothingToUndo",
+                                                                                     "a-b:4:0", "a-b:0:4", "error NothingToUndo"))
 
     def test_nets(self):
         shell = Shell()
-        self.alike(shell.run_all("net a a", "net a b c d e f g h i j", "net", "net A", "net a-b", "show", "net dock", "show", "net c b a", "show", "undo 1", "net q q", "show"),
-                   ("error InvalidNet", "error InvalidNet", "error ParseError", "error ParseError", "error ParseError", "error InvalidOperation", "ok", "dock", "ok",
+        self.alike(shell.run_all("net a a", "net a b c d e f g h i j", "net", "net A", "net a-b", "show", "net dock", "show", "net c b a",
+                                 "show", "undo 1", "net q q", "show"),
+                   ("error InvalidNet", "error InvalidNet", "error ParseError", "error ParseError", "error ParseError",
+                    "error InvalidOperation", "ok", "dock", "ok",
                     "a b c", "error NothingToUndo", "error InvalidNet", "a b c"))
         self.alike(Shell().run("net a b c d e f g h i"), "ok")
         self.alike(NINE.lines, shell_of(NINE).net.lines)
@@ -165,7 +181,9 @@ class Lines(Case):
                 for at, kind in enumerate(kinds):
                     for other in OTHER[kind]:
                         self.alike(shell.run(" ".join([word, *items[:at], other, *items[at + 1:]])), "error ParseError")
-                for line in (" " + " ".join([word, *items]), " ".join([word, *items]) + " ", "  ".join([word, *items]) + " x" * (not items), word.upper(), word + "s" * 3,
+                for line in (" " + " ".join([word, *items]), " ".join([word, *items]) + " ", "  ".join([word,
+                                                                                                        *items]) + " x" * (not items),
+                             word.upper(), word + "s" * 3,
                              " ".join([word, *items]) + "\n", "\t".join([word, *items]) + "\t"):
                     self.alike(shell.run(line), "error ParseError")
         for line in ("", " ", "-", "oops", "a b", "1", "net,a", "Show", "shows", "error ParseError"):
@@ -182,8 +200,10 @@ class Lines(Case):
         shell = shell_of(FULL)
         shell.run_all("pin a b 3", "tie a b 1", "undo 1")
         before = state(shell)
-        for line in ("oops", "tie a q 1", "tie a a 1", "tie a b 99", "untie a b 2", "untie a b 1", "add a", "remove q", "remove b", "lead d a-d", "widen a-q", "undo 9", "redo 2",
-                     "pin a b 4", "number a q", "near a a", "far q a", "ways a a", "keeps d d-d", "pairs q", "past a", "growth 2", "streets 2", "fewest 1", "new 1",
+        for line in ("oops", "tie a q 1", "tie a a 1", "tie a b 99", "untie a b 2", "untie a b 1", "add a", "remove q", "remove b",
+                     "lead d a-d", "widen a-q", "undo 9", "redo 2",
+                     "pin a b 4", "number a q", "near a a", "far q a", "ways a a", "keeps d d-d", "pairs q", "past a", "growth 2",
+                     "streets 2", "fewest 1", "new 1",
                      "net a a", "net"):
             self.alike(shell.run(line)[:6], "error ")
             self.alike(state(shell), before)
@@ -192,7 +212,8 @@ class Lines(Case):
 
     def test_answers_that_look_like_errors(self):
         shell = Shell()
-        self.alike(shell.run_all("net error zz", "show", "tie error zz 2", "near error zz", "far error zz", "classes 2", "show", "growth 1"),
+        self.alike(shell.run_all("net error zz", "show", "tie error zz 2", "near error zz", "far error zz", "classes 2", "show",
+                                 "growth 1"),
                    ("ok", "error zz", "error-zz:0:2", "error", "error", "error zz", "error zz; error zz 2", shell.run("growth 1")))
         self.alike(len(shell), 9)
 
@@ -225,7 +246,8 @@ class Lines(Case):
             for _ in range(60):
                 word = draw.choice(["net", *COMMANDS] if seed % 3 else [*COMMANDS][1:]) if len(shell) else "net"
                 kinds = {"P": lambda: draw.choice("abcd"), "N": lambda: str(draw.choice((0, 1, 1, 2, 3, 10))),
-                         "A": lambda: "-".join(sorted(draw.choices("abcd", k=2))), "L": lambda: " ".join(sorted("-".join(sorted(draw.choices("abcd", k=2))) for _ in range(2)))}
+                         "A": lambda: "-".join(sorted(draw.choices("abcd", k=2))),
+                         "L": lambda: " ".join(sorted("-".join(sorted(draw.choices("abcd", k=2))) for _ in range(2)))}
                 line = " ".join([word, *[kinds[kind]() for kind in COMMANDS[word]]]) if word != "net" else "net a b c d"
                 before = state(shell)
                 answer = shell.run(line)

@@ -18,7 +18,8 @@ NEAR = ({}, {("a", "b"): 2}, {("a", "b"): 2, ("b", "c"): 2}, {("a", "b"): 1, ("b
         {("a", "b"): 2, ("b", "c"): 1, ("a", "c"): 0}, {("a", "b"): 2, ("b", "c"): 1, ("a", "q"): 1}, {"ab": 2, "bc": 1},
         {("a", "b"): 2, ("b", "c"): 1, "ab": 1}, {("a", "b", "a"): 2, ("b", "c"): 1}, {("a", "b"): 2, ("b", "c"): 1, (1, (2,)): None},
         ((("a", "b"), 2), (("b", "c"), 1)), [("a", "b"), ("a", "b"), ("b", "c")], {("a", "b"): 2, ("b", "c"): 10 ** 60},
-        {("a", "b"): 2, ("b", "c"): 1, ("a", "b", "a"): 1}, {("a", "b"): 2, ("b", "c"): 1, ("q", "a"): 1}, {("a", "b"): 2, ("b", "c"): None}, {("a", "b"): 2, ("b", "c"): [1]}, {("a", "b"): 2, ("b", "c"): 1, None: 1}, {("a", "b"): 2, 1: 1})
+        {("a", "b"): 2, ("b", "c"): 1, ("a", "b", "a"): 1}, {("a", "b"): 2, ("b", "c"): 1, ("q", "a"): 1},
+        {("a", "b"): 2, ("b", "c"): None}, {("a", "b"): 2, ("b", "c"): [1]}, {("a", "b"): 2, ("b", "c"): 1, None: 1}, {("a", "b"): 2, 1: 1})
 NO_STREETS = (*STRANGE, *NEAR, 0, 1, (), ("a", "b"), "q", TRIO)
 MADE = [(net, looks_along.drawn_streets(net, seed)) for seed, net in enumerate(SMALL[:70])]
 
@@ -68,8 +69,10 @@ class Asked(Case):
         for ways, lot in (((("a", "b", "d"), ("a", "c", "d")), ("a",)), ((("a", "c", "d"), ("a", "b", "d")), ("a",)),
                           ((("a", "b", "c", "d"), ("a", "c", "d")), ("a",))):
             self.assertIs(is_one_way_paper(net, streets, "a", "d", (ways, lot)), True)
-        for ways, lot in (((("a", "b", "d"), ("a", "b", "c", "d")), ("a",)), ((("a", "b", "d"),), ("a",)), ((("a", "d"), ("a", "c", "d")), ("a",)),
-                          ((("a", "b", "d"), ("a", "c", "d")), ("a", "b")), ((("a", "b", "d"), ("a", "c", "b", "d")), ("a",)), ((), ("a", "d")),
+        for ways, lot in (((("a", "b", "d"), ("a", "b", "c", "d")), ("a",)), ((("a", "b", "d"),), ("a",)),
+                          ((("a", "d"), ("a", "c", "d")), ("a",)),
+                          ((("a", "b", "d"), ("a", "c", "d")), ("a", "b")), ((("a", "b", "d"), ("a", "c", "b", "d")), ("a",)),
+                          ((), ("a", "d")),
                           ((), ("d",)), ((), ()), ((), net.places), ((("a", "b", "d"), ("a", "c", "d")), ["a"])):
             self.assertIs(is_one_way_paper(net, streets, "a", "d", (ways, lot)), False)
         self.assertIs(is_one_way_paper(net, streets, "d", "a", ((("d", "a"),), ("b", "c", "d"))), True)
@@ -81,7 +84,8 @@ class Asked(Case):
             self.assertIs(is_one_way_paper(PAIR, {("b", "a"): 4}, "a", "b", value), False)
 
     def test_a_street_is_gone_back_once_only(self):
-        steps = [("a", "b"), ("b", "c"), ("c", "h"), ("a", "d"), ("d", "c"), ("a", "e"), ("e", "c"), ("b", "f"), ("f", "h"), ("b", "g"), ("g", "h")]
+        steps = [("a", "b"), ("b", "c"), ("c", "h"), ("a", "d"), ("d", "c"), ("a", "e"), ("e", "c"), ("b", "f"), ("f", "h"), ("b", "g"),
+                 ("g", "h")]
         net = Net(tuple("abcdefgh"), looks.counted(steps))
         streets = looks_along.counted_steps(steps)
         paper = one_way_paper(net, streets, "a", "h")

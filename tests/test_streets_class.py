@@ -24,7 +24,8 @@ class Told(Case):
         streets = made()
         self.assertTrue(streets.net == TRIO)
         self.alike((streets.arrows, streets.least), ({("a", "b"): 1, ("b", "a"): 1, ("b", "c"): 1}, 0))
-        self.alike((Streets(ONE, {}).arrows, Streets(ONE, {}).least, Streets(LOOSE, {}).least, Streets(RING, ROUND).least), ({}, None, 0, 1))
+        self.alike((Streets(ONE, {}).arrows, Streets(ONE, {}).least, Streets(LOOSE, {}).least, Streets(RING, ROUND).least),
+                   ({}, None, 0, 1))
         for net, told in MADE:
             streets = Streets(net, dict(reversed(told.items())))
             self.alike(streets.arrows, told)
@@ -64,7 +65,8 @@ class Told(Case):
         for net, told in MADE:
             self.alike(Streets(net, told).rounds(), looks_along.rounds(net, told))
         one = Net(("a", "b", "c", "d"), {("a", "c"): 2, ("b", "d"): 2, ("a", "b"): 1})
-        self.alike(Streets(one, {("a", "c"): 1, ("c", "a"): 1, ("b", "d"): 1, ("d", "b"): 1, ("b", "a"): 1}).rounds(), (("a", "c"), ("b", "d")))
+        self.alike(Streets(one, {("a", "c"): 1, ("c", "a"): 1, ("b", "d"): 1, ("d", "b"): 1, ("b", "a"): 1}).rounds(),
+                   (("a", "c"), ("b", "d")))
 
     def test_text_and_len(self):
         self.alike((str(made()), len(made()), list(made())), ("3 streets, 0 from each to each", 3, [("a", "b"), ("b", "a"), ("b", "c")]))
@@ -85,7 +87,8 @@ class Told(Case):
         self.assertIs(streets == Streets(TRIO, {("a", "b"): 1, ("b", "a"): 1, ("b", "c"): 1}), True)
         self.assertIs(streets != made(), False)
         self.assertIs(Streets(ONE, {}) == Streets(LOOSE, {}), False)
-        for value in (*STRANGE, 3, TRIO, streets.arrows, streets.turned(), str(streets), (streets,), Streets(TRIO, {("a", "b"): 2, ("b", "c"): 1})):
+        for value in (*STRANGE, 3, TRIO, streets.arrows, streets.turned(), str(streets), (streets,),
+                      Streets(TRIO, {("a", "b"): 2, ("b", "c"): 1})):
             self.assertIs(streets == value, False)
             self.assertIs(value == streets, False)
             self.assertIs(streets != value, True)

@@ -11,7 +11,8 @@ from tests import looks, looks_new
 from tests.samples import ALL, CROWD, FULL, HUB, LETTERS, LOOSE, NINE, NO_NETS, ONE, PAIR, RING, SIXTY, SMALL, STRANGE, Case
 from tests.test_rows import FOLDS, HALF_FULL, NO_ENDS, NO_FOLDS, PATH, TINY, drawn_ends
 
-NO_PRICES = (*STRANGE, 0, 1, (), "q", PATH, {"a": 1, "b": 1}, {"a": 1, "b": 1, "c": 1, "d": 1}, {"a": 1, "b": 1, "d": 1}, {"a": 1, "b": 1, "c": -1},
+NO_PRICES = (*STRANGE, 0, 1, (), "q", PATH, {"a": 1, "b": 1}, {"a": 1, "b": 1, "c": 1, "d": 1}, {"a": 1, "b": 1, "d": 1},
+             {"a": 1, "b": 1, "c": -1},
              {"a": 1, "b": 1, "c": 1001}, {"a": 1, "b": 1, "c": True}, {"a": 1, "b": 1, "c": None}, {"a": 1, "b": 1, "c": "1"},
              {"a": 1, "b": 1, "c": 10 ** 60}, (("a", 1), ("b", 1), ("c", 1)), [1, 1, 1], {"a": 1, "b": 1, (1, (2,)): 1})
 TRIANGLE = (("a", "b"), ("a", "c"), ("b", "c"))
@@ -50,7 +51,8 @@ def right_ties_paper(net, fold, value):
 class Fewest(Case):
 
     def test_fewest_ties(self):
-        self.alike((fewest_ties(LOOSE, 2), fewest_ties(RING, 3), fewest_ties(ONE, 9), fewest_ties(SIXTY, 9), fewest_ties(NINE, 9), fewest_ties(PATH, 2)),
+        self.alike((fewest_ties(LOOSE, 2), fewest_ties(RING, 3), fewest_ties(ONE, 9), fewest_ties(SIXTY, 9), fewest_ties(NINE, 9),
+                    fewest_ties(PATH, 2)),
                    (3, 3, 0, 0, 41, 1))
         for net in TINY:
             for fold in (2, 3, 4):
@@ -83,8 +85,10 @@ class Fewest(Case):
         for value in (((("a", "c"),), (("a",), ("c",))), ((("a", "c"),), (("a", "b"), ("c",))), ((("a", "c"),), (("a",), ("b",), ("c",))),
                       ((("a", "c"),), (("a",), ("b", "c"))), ((("a", "c"),), (("a",),)), ((("a", "c"),), (("b", "c"),))):
             self.assertIs(is_ties_paper(PATH, 2, value), True, value)
-        for value in (((("a", "c"),), ()), ((("a", "c"),), (("b",),)), ((("a", "b"),), (("a",), ("c",))), ((("a", "a"), ("a", "c")), (("a",), ("c",))),
-                      ((("c", "a"),), (("a",), ("c",))), ((("a", "c"),), (("c",), ("a",))), [(("a", "c"),), (("a",), ("c",))], ((), ()), (None, None)):
+        for value in (((("a", "c"),), ()), ((("a", "c"),), (("b",),)), ((("a", "b"),), (("a",), ("c",))),
+                      ((("a", "a"), ("a", "c")), (("a",), ("c",))),
+                      ((("c", "a"),), (("a",), ("c",))), ((("a", "c"),), (("c",), ("a",))), [(("a", "c"),), (("a",), ("c",))], ((), ()),
+                      (None, None)):
             self.assertIs(is_ties_paper(PATH, 2, value), False, value)
         for value in (*STRANGE, 5, (), PATH):
             self.assertIs(is_ties_paper(PATH, 2, value), False)
@@ -129,7 +133,8 @@ class Prices(Case):
             self.refused(InvalidRow, price_of, PATH, {"a": 1, "b": 1, "c": 1}, value)
 
     def test_no_prices(self):
-        for call, more in ((least_price, ()), (cheapest_ends, ()), (weighing, ()), (worth, (None,)), (price_paper, ()), (is_price_paper, (None,))):
+        for call, more in ((least_price, ()), (cheapest_ends, ()), (weighing, ()), (worth, (None,)), (price_paper, ()),
+                           (is_price_paper, (None,))):
             for value in NO_PRICES:
                 self.refused(InvalidOperation, call, PATH, 2, value, *more)
         for value in NO_PRICES:
@@ -171,10 +176,14 @@ class Weighed(Case):
 
     def test_is_weighing(self):
         prices = {"a": 3, "b": 0, "c": 1000}
-        for value, told in (((), True), (((1, ()),), True), (((1000, ()),) * 9, True), (((3, (("a",), ("c",))),), True), (((4, (("a",), ("c",))),), False),
-                            (((2, (("a",),)), (1, (("a",),))), True), (((2, (("a",),)), (2, (("a",),))), False), (((1, (("a", "b"),)),), False),
-                            (((1000, (("c",),)),), True), (((1001, ()),), False), (((0, ()),), False), (((True, ()),), False), (((-1, ()),), False),
-                            (((1, (("c",), ("a",))),), False), (((1, (("a",), ("a", "c"))),), False), (((1, (("a", "c"),)), (1, (("a",), ("c",)))), True),
+        for value, told in (((), True), (((1, ()),), True), (((1000, ()),) * 9, True), (((3, (("a",), ("c",))),), True),
+                            (((4, (("a",), ("c",))),), False),
+                            (((2, (("a",),)), (1, (("a",),))), True), (((2, (("a",),)), (2, (("a",),))), False),
+                            (((1, (("a", "b"),)),), False),
+                            (((1000, (("c",),)),), True), (((1001, ()),), False), (((0, ()),), False), (((True, ()),), False),
+                            (((-1, ()),), False),
+                            (((1, (("c",), ("a",))),), False), (((1, (("a",), ("a", "c"))),), False),
+                            (((1, (("a", "c"),)), (1, (("a",), ("c",)))), True),
                             ([(1, ())], False), (([1, ()],), False), (((1, [("a",)]),), False), (((1,),), False), (((1, (), ()),), False),
                             (((1, ((),)),), False), (((1, (("a", "b", "c"),)),), False)):
             self.assertIs(is_weighing(PATH, prices, value), told, value)
@@ -188,7 +197,8 @@ class Weighed(Case):
 
     def test_worth(self):
         prices = {"a": 3, "b": 0, "c": 1000}
-        self.alike((worth(PATH, 2, prices, ()), worth(PATH, 4, prices, ((2, (("a",), ("c",))), (1, (("a",),)))), worth(PATH, 9, prices, ((900, (("c",),)),))),
+        self.alike((worth(PATH, 2, prices, ()), worth(PATH, 4, prices, ((2, (("a",), ("c",))), (1, (("a",),)))),
+                    worth(PATH, 9, prices, ((900, (("c",),)),))),
                    (0, 15, 7200))
 
 
@@ -213,7 +223,8 @@ class Papers(Case):
                       ((("a", "c"),), 4, ((2, (("a",),)), (1, (("c",),)), (1, (("b",), ("c",)))))):
             self.assertIs(is_price_paper(PATH, 2, prices, value), True, value)
         for value in (((("a", "b"), ("b", "c")), 6, ((2, (("a",), ("c",))),)), ((("a", "c"),), 3, ((2, (("a",), ("c",))),)),
-                      ((("a", "c"),), 4, ((1, (("a",), ("c",))),)), ((("a", "c"),), 4, ((2, (("a", "b"), ("c",))),)), ((("a", "c"),), 4, ()),
+                      ((("a", "c"),), 4, ((1, (("a",), ("c",))),)), ((("a", "c"),), 4, ((2, (("a", "b"), ("c",))),)),
+                      ((("a", "c"),), 4, ()),
                       [(("a", "c"),), 4, ((2, (("a",), ("c",))),)], ((("a", "c"),), 4), ((("c", "a"),), 4, ((2, (("a",), ("c",))),))):
             self.assertIs(is_price_paper(PATH, 2, prices, value), False, value)
         for value in (*STRANGE, 5, (), (None, None, None), PATH):

@@ -18,8 +18,10 @@ TWICE = Net(("a", "b", "c"), {("a", "b"): 2, ("b", "c"): 2})
 THREE = {("a", "b"): 2, ("a", "c"): 3, ("b", "c"): 2}
 NO_WANTS = (*STRANGE, 0, 1, (), "q", TWICE, {}, {("a", "b"): 2, ("a", "c"): 3}, {**THREE, ("b", "d"): 2}, {**THREE, ("b", "a"): 2},
             {("b", "a"): 2, ("a", "c"): 3, ("b", "c"): 2}, {**THREE, ("a", "b"): 1}, {**THREE, ("a", "b"): 10}, {**THREE, ("a", "b"): True},
-            {**THREE, ("a", "b"): None}, {**THREE, ("a", "b"): "2"}, {**THREE, ("a", "b"): 0}, {**THREE, ("a", "b"): 10 ** 60}, {"ab": 2, "ac": 3, "bc": 2},
-            tuple(THREE.items()), list(THREE), {("a", "b"): 2, ("a", "c"): 3, (1, (2,)): 2}, {("a", "b"): 2, ("a", "c"): 3, ("b", "b"): 2}, {**THREE, ("a", "b"): [2]})
+            {**THREE, ("a", "b"): None}, {**THREE, ("a", "b"): "2"}, {**THREE, ("a", "b"): 0}, {**THREE, ("a", "b"): 10 ** 60},
+            {"ab": 2, "ac": 3, "bc": 2},
+            tuple(THREE.items()), list(THREE), {("a", "b"): 2, ("a", "c"): 3, (1, (2,)): 2}, {("a", "b"): 2, ("a", "c"): 3,
+                                                                                              ("b", "b"): 2}, {**THREE, ("a", "b"): [2]})
 
 
 def drawn_wants(net, seed):
@@ -61,7 +63,8 @@ class Asked(Case):
             self.assertIs(is_wants(TWICE, bent), looks_new.right_wants(TWICE, bent), bent)
 
     def test_wanted_cuts_and_shorts(self):
-        self.alike((wanted_cut(TWICE, THREE, ("b",)), wanted_cut(TWICE, THREE, ("a", "b")), short_by(TWICE, THREE, ("a",)), short_by(TWICE, THREE, ("b",))),
+        self.alike((wanted_cut(TWICE, THREE, ("b",)), wanted_cut(TWICE, THREE, ("a", "b")), short_by(TWICE, THREE, ("a",)),
+                    short_by(TWICE, THREE, ("b",))),
                    (2, 3, 1, 0))
         for seed, net in enumerate(SMALL[:60]):
             wants = drawn_wants(net, seed)
@@ -75,7 +78,8 @@ class Asked(Case):
                 self.refused(InvalidLot, call, ONE, {}, value)
 
     def test_unmet(self):
-        self.alike((are_met(TWICE, THREE), first_unmet(TWICE, THREE), are_met(ONE, {}), first_unmet(ONE, {})), (False, ("a", "c"), True, None))
+        self.alike((are_met(TWICE, THREE), first_unmet(TWICE, THREE), are_met(ONE, {}), first_unmet(ONE, {})),
+                   (False, ("a", "c"), True, None))
         found = []
         for seed, net in enumerate(ALL[:120]):
             wants = drawn_wants(net, seed)
@@ -88,8 +92,10 @@ class Asked(Case):
         self.assertIs(are_met(TWICE, {**THREE, ("a", "c"): 2}), True)
 
     def test_refused(self):
-        for call, more in ((is_wants, ()), (wanted_cut, (None,)), (short_by, (None,)), (are_met, ()), (first_unmet, ()), (do_serve, (None,)),
-                           (serving_ends, (None,)), (fewest_for, ()), (wants_paper, ()), (is_wants_paper, (None,)), (wants_ends_paper, (None,)),
+        for call, more in ((is_wants, ()), (wanted_cut, (None,)), (short_by, (None,)), (are_met, ()), (first_unmet, ()),
+                           (do_serve, (None,)),
+                           (serving_ends, (None,)), (fewest_for, ()), (wants_paper, ()), (is_wants_paper, (None,)),
+                           (wants_ends_paper, (None,)),
                            (is_wants_ends_paper, (None, None))):
             for value in NO_NETS:
                 self.refused(InvalidNet, call, value, None, *more)
@@ -106,7 +112,8 @@ class Asked(Case):
 class Served(Case):
 
     def test_do_serve(self):
-        self.alike((do_serve(TWICE, THREE, {"a": 1, "b": 0, "c": 1}), do_serve(TWICE, THREE, {"a": 1, "b": 1, "c": 0}), do_serve(ONE, {}, {"a": 0})), (True, False, True))
+        self.alike((do_serve(TWICE, THREE, {"a": 1, "b": 0, "c": 1}), do_serve(TWICE, THREE, {"a": 1, "b": 1, "c": 0}),
+                    do_serve(ONE, {}, {"a": 0})), (True, False, True))
         for seed, net in enumerate(SMALL[:80]):
             wants, ends = drawn_wants(net, seed), drawn_ends(net, seed, seed % 9)
             self.assertIs(do_serve(net, wants, ends), not looks_new.below(looks_new.shorts(net, wants), ends))
@@ -122,11 +129,13 @@ class Served(Case):
                     ends[place] = min(many for many in range(10) if not looks_new.below(told, {**ends, place: many}))
                 self.alike(serving_ends(net, wants, order), ends)
                 self.alike((sum(ends.values()) + 1) // 2, fewest_for(net, wants))
-        for value in (*STRANGE, 1, (), ("a", "b"), ("a", "b", "b"), ("a", "b", "c", "c"), ["a", "b", "c"], "abc", ("a", "b", "q"), THREE, TWICE):
+        for value in (*STRANGE, 1, (), ("a", "b"), ("a", "b", "b"), ("a", "b", "c", "c"), ["a", "b", "c"], "abc", ("a", "b", "q"), THREE,
+                      TWICE):
             self.refused(InvalidOperation, serving_ends, TWICE, THREE, value)
 
     def test_fewest_for(self):
-        self.alike((fewest_for(TWICE, THREE), fewest_for(ONE, {}), fewest_for(SIXTY, {("dock", "pier"): 9}), fewest_for(NINE, dict.fromkeys(NINE.pairs, 9))), (1, 0, 0, 41))
+        self.alike((fewest_for(TWICE, THREE), fewest_for(ONE, {}), fewest_for(SIXTY, {("dock", "pier"): 9}),
+                    fewest_for(NINE, dict.fromkeys(NINE.pairs, 9))), (1, 0, 0, 41))
         for seed, net in enumerate((*TINY, *TINY)):
             wants = {pair: min(many, 5) for pair, many in drawn_wants(net, seed).items()}
             told = looks_new.shorts(net, wants)
@@ -178,11 +187,14 @@ class Papers(Case):
         self.alike(len(wants_paper(less, wants)[0]), 9)
 
     def test_wants_papers_made_otherwise(self):
-        for value in (((("a", "c"),), (("a",), ("c",))), ((("a", "c"),), (("a", "b"), ("c",))), ((("a", "c"),), (("a",),)), ((("a", "c"),), (("a",), ("b",), ("c",))),
+        for value in (((("a", "c"),), (("a",), ("c",))), ((("a", "c"),), (("a", "b"), ("c",))), ((("a", "c"),), (("a",),)),
+                      ((("a", "c"),), (("a",), ("b",), ("c",))),
                       ((("a", "c"),), (("b", "c"),))):
             self.assertIs(is_wants_paper(TWICE, THREE, value), True, value)
-        for value in (((("a", "c"),), ()), ((("a", "c"),), (("b",),)), ((("a", "b"),), (("a",), ("c",))), ((("a", "c"), ("b", "b")), (("a",), ("c",))), ((("c", "a"),), (("a",), ("c",))),
-                      ((("a", "c"),), (("c",), ("a",))), [(("a", "c"),), (("a",), ("c",))], ((), ()), (None, None), ((("a", "c"),), None), ((("a", "c"),),)):
+        for value in (((("a", "c"),), ()), ((("a", "c"),), (("b",),)), ((("a", "b"),), (("a",), ("c",))),
+                      ((("a", "c"), ("b", "b")), (("a",), ("c",))), ((("c", "a"),), (("a",), ("c",))),
+                      ((("a", "c"),), (("c",), ("a",))), [(("a", "c"),), (("a",), ("c",))], ((), ()), (None, None), ((("a", "c"),), None),
+                      ((("a", "c"),),)):
             self.assertIs(is_wants_paper(TWICE, THREE, value), False, value)
         for value in (*STRANGE, 5, (), TWICE):
             self.assertIs(is_wants_paper(TWICE, THREE, value), False)
@@ -212,11 +224,15 @@ class Papers(Case):
         ends = {"a": 2, "b": 2, "c": 2}
         for new_ties in ((("a", "b"), ("a", "c"), ("b", "c")), (("a", "c"), ("a", "c"), ("b", "b"))):
             self.assertIs(is_wants_ends_paper(TWICE, THREE, ends, ("met", new_ties)), True)
-        for value in (("met", (("a", "a"), ("b", "b"), ("c", "c"))), ("met", (("a", "c"),)), ("met", (("a", "c"), ("a", "b"), ("b", "c"))), ("odd",), ("lacks", ("a",)), ("met", None),
-                      ("odd", ()), ["met", (("a", "b"), ("a", "c"), ("b", "c"))], ("Met", (("a", "b"), ("a", "c"), ("b", "c"))), ("met", (("a", "b"), ("a", "c"), ("b", "c")), ())):
+        for value in (("met", (("a", "a"), ("b", "b"), ("c", "c"))), ("met", (("a", "c"),)), ("met",
+                                                                                              (("a", "c"), ("a", "b"), ("b", "c"))),
+                      ("odd",), ("lacks", ("a",)), ("met", None),
+                      ("odd", ()), ["met", (("a", "b"), ("a", "c"), ("b", "c"))], ("Met", (("a", "b"), ("a", "c"), ("b", "c"))),
+                      ("met", (("a", "b"), ("a", "c"), ("b", "c")), ())):
             self.assertIs(is_wants_ends_paper(TWICE, THREE, ends, value), False, value)
         odd = {"a": 0, "b": 0, "c": 1}
-        for value, told in ((("odd",), True), (("lacks", ("a",)), True), (("lacks", ["a"]), False), (("lacks", ("c",)), False), (("lacks", ("b", "c")), False), (("lacks", ("a", "b")), True), (("lacks", ()), False), (["odd"], False)):
+        for value, told in ((("odd",), True), (("lacks", ("a",)), True), (("lacks", ["a"]), False), (("lacks", ("c",)), False),
+                            (("lacks", ("b", "c")), False), (("lacks", ("a", "b")), True), (("lacks", ()), False), (["odd"], False)):
             self.assertIs(is_wants_ends_paper(TWICE, THREE, odd, value), told, value)
         for told in (ends, odd, {"a": 1, "b": 1, "c": 1}, {"a": 0, "b": 0, "c": 2}):
             for bent in looks.bends(wants_ends_paper(TWICE, THREE, told)):

@@ -29,7 +29,8 @@ class Told(Case):
             table = drawn_wants(net, seed)
             wants = Wants(net, table)
             told = looks_new.shorts(net, table)
-            self.alike((wants.table, wants.fewest, wants.short), (table, fewest_for(net, table), tuple(lot for lot in told if told[lot] > 0)))
+            self.alike((wants.table, wants.fewest, wants.short), (table, fewest_for(net, table),
+                                                                  tuple(lot for lot in told if told[lot] > 0)))
 
     def test_text_and_len(self):
         self.alike((str(Wants(FULL, FOURS)), len(Wants(FULL, FOURS)), list(Wants(FULL, FOURS))), ("6 wants, 1 new ties", 6, [*FULL.pairs]))
@@ -48,7 +49,8 @@ class Told(Case):
         wants = made()
         self.assertIs(wants == Wants(TWICE, THREE), True)
         self.assertIs(wants != made(), False)
-        for value in (*STRANGE, 3, (), THREE, TWICE, str(wants), (wants,), Wants(TWICE, {**THREE, ("a", "b"): 3}), Wants(LOOSE, THREE), Wants(ONE, {})):
+        for value in (*STRANGE, 3, (), THREE, TWICE, str(wants), (wants,), Wants(TWICE, {**THREE, ("a", "b"): 3}), Wants(LOOSE, THREE),
+                      Wants(ONE, {})):
             self.assertIs(wants == value, False)
             self.assertIs(value == wants, False)
             self.assertIs(wants != value, True)
@@ -93,7 +95,8 @@ class Made(Case):
         self.refused(UnknownPlace, Wants(ONE, {}).with_want, "a", "a", 2)
 
     def test_lowered(self):
-        self.alike((made().lowered().table, Wants(FULL, FOURS).lowered().table), (dict.fromkeys(TWICE.pairs, 2), dict.fromkeys(FULL.pairs, 3)))
+        self.alike((made().lowered().table, Wants(FULL, FOURS).lowered().table), (dict.fromkeys(TWICE.pairs, 2),
+                                                                                  dict.fromkeys(FULL.pairs, 3)))
         self.alike((Wants(ONE, {}).lowered().table, Wants(LOOSE, THREE).lowered().table), ({}, dict.fromkeys(LOOSE.pairs, 2)))
         for seed, net in enumerate(SMALL[:40]):
             table, told = drawn_wants(net, seed), looks.numbers(net)
@@ -112,14 +115,16 @@ class Made(Case):
 
     def test_greater_and_lesser(self):
         other = Wants(TWICE, {("a", "b"): 4, ("a", "c"): 2, ("b", "c"): 2})
-        self.alike((made().greater(other).table, made().lesser(other).table), ({("a", "b"): 4, ("a", "c"): 3, ("b", "c"): 2}, dict.fromkeys(TWICE.pairs, 2)))
+        self.alike((made().greater(other).table, made().lesser(other).table), ({("a", "b"): 4, ("a", "c"): 3, ("b", "c"): 2},
+                                                                               dict.fromkeys(TWICE.pairs, 2)))
         for seed, net in enumerate(SMALL[:40]):
             one, two = Wants(net, drawn_wants(net, seed)), Wants(net, drawn_wants(net, seed + 1))
             for wants, pick in ((one.greater(two), max), (one.lesser(two), min)):
                 self.assertIs(type(wants), Wants)
                 self.alike(wants.table, {pair: pick(one.table[pair], two.table[pair]) for pair in net.pairs})
             self.assertTrue(one.greater(two) == two.greater(one) and one.greater(one) == one == one.lesser(one))
-        for value in (*STRANGE, 3, (), THREE, TWICE, Wants(LOOSE, THREE), Wants(PAIR, {("a", "b"): 2}), Wants(Net(("a", "b", "d")), drawn_wants(Net(("a", "b", "d")), 1))):
+        for value in (*STRANGE, 3, (), THREE, TWICE, Wants(LOOSE, THREE), Wants(PAIR, {("a", "b"): 2}),
+                      Wants(Net(("a", "b", "d")), drawn_wants(Net(("a", "b", "d")), 1))):
             self.refused(InvalidOperation, made().greater, value)
             self.refused(InvalidOperation, made().lesser, value)
 

@@ -29,7 +29,8 @@ def drawn_change(draw, net):
     """The name of a change of a net, and what it is given; it can be one that is refused."""
     one, other = draw.sample([*net.places, "n"], 2)
     near = sorted(draw.choices(net.places, k=2))
-    return draw.choice((("tie", (one, other, draw.randint(0, 3))), ("tie", (one, other, 2)), ("untie", (one, other)), ("add", (draw.choice("nmk"),)),
+    return draw.choice((("tie", (one, other, draw.randint(0, 3))), ("tie", (one, other, 2)), ("untie", (one, other)),
+                        ("add", (draw.choice("nmk"),)),
                         ("remove", (one,)), ("lead", (one, tuple(near))), ("widen", ((tuple(near),) * 2,))))
 
 
@@ -52,7 +53,10 @@ class Whole(Case):
             self.assertTrue(worth(net, fold, prices, told[1]) <= price_of(net, prices, ends))
             if net.size + fewest_ties(net, fold) <= 60:
                 told += [ends_paper(net, fold, ends), ties_paper(net, fold), price_paper(net, fold, prices)]
-                self.assertTrue(is_ends_paper(net, fold, ends, told[2]) and is_ties_paper(net, fold, told[3]) and is_price_paper(net, fold, prices, told[4]))
+                self.assertTrue(is_ends_paper(net, fold, ends, told[2]) and is_ties_paper(net, fold, told[3]) and is_price_paper(net,
+                                                                                                                                 fold,
+                                                                                                                                 prices,
+                                                                                                                                 told[4]))
             found += told
         for place in net.places:
             for pair in pairs_at(net, place)[:3]:
@@ -66,7 +70,8 @@ class Whole(Case):
     def texts(self, net):
         """Texts of what is told of a net, which come back equal; as a tuple."""
         tree = CutTree(net)
-        values = [("lot", net.places), ("pairs", net.pairs), ("tree", tree.triples), ("ends", least_ends(net, 3, net.places)), ("streets", halved(net)),
+        values = [("lot", net.places), ("pairs", net.pairs), ("tree", tree.triples), ("ends", least_ends(net, 3, net.places)),
+                  ("streets", halved(net)),
                   ("pairs", good_pairing(net))]
         if len(net) > 1:
             values += [("lot", tree.side(0)), ("ways", Ways(net, net.places[0], net.places[-1]).shown)]
@@ -114,7 +119,8 @@ class Whole(Case):
                 except (InvalidNet, InvalidOperation, UnknownPlace, Refused, RuntimeError):
                     continue
                 behind = all_numbers(project.net)
-                self.alike(news, tuple((*pair, before[pair], behind[pair]) for pair in before if pair in behind and before[pair] != behind[pair]))
+                self.alike(news,
+                           tuple((*pair, before[pair], behind[pair]) for pair in before if pair in behind and before[pair] != behind[pair]))
                 told.append(self.told(project.net))
             self.alike(project.depth, len(told) - 1)
             for at in range(len(told) - 1, 0, -1):
@@ -178,10 +184,12 @@ class Whole(Case):
     def test_a_shell_tells_what_the_modules_tell(self):
         for net in (RING, FULL, HUB, CROWD):
             shell = Shell()
-            shell.run_all("net " + " ".join(reversed(net.places)), *[f"tie {other} {one} {many}" for (one, other), many in net.ties.items()])
+            shell.run_all("net " + " ".join(reversed(net.places)), *[f"tie {other} {one} {many}" for (one, other),
+                                                                     many in net.ties.items()])
             self.assertTrue(shell.net == net)
             self.alike(shell.run_all("show", "tree", "halves", "growth 1", "streets 1", "new 2"),
-                       ("; ".join(net.lines), write("tree", CutTree(net).triples), write("streets", halved(net)), write("growth", growth_paper(net, 1)[1]),
+                       ("; ".join(net.lines), write("tree", CutTree(net).triples), write("streets", halved(net)),
+                        write("growth", growth_paper(net, 1)[1]),
                         write("streets", streets_paper(net, 1)[1]), write("pairs", ties_paper(net, 2)[0])))
 
 

@@ -1,7 +1,7 @@
 """Streets: ties of a net that are led along in one direction each."""
 
 from keptways.base.lots import is_proper
-from keptways.base.masks import all_cuts, do_part, least_masks, lot_of, mask_of
+from keptways.base.masks import all_cuts, all_sums, do_part, least_masks, lot_of, mask_of
 from keptways.base.nets import check_lot, check_net, check_place, makes_lot, tally
 from keptways.base.words import is_integer
 from keptways.errors import InvalidOperation, InvalidStreets, InvalidWays
@@ -42,9 +42,7 @@ def spread_of(places, streets):
 def all_leaving(net, streets):
     """The list of how many streets leave each lot, at the masks of the lots."""
     spread = spread_of(net.places, streets)
-    more = [0]
-    for place in net.places:
-        more = more + [ahead + spread[place] for ahead in more]
+    more = all_sums([spread[place] for place in net.places])
     # What leaves a lot and what leads into it sum to its cut, and differ by what its places spread.
     return [(cut + many) // 2 for cut, many in zip(all_cuts(net), more)]
 

@@ -1,12 +1,12 @@
 """Ends of new ties: which of them suffice, and the fewest of them, shown by rows of lots."""
 
 from keptways.base.lots import is_proper, is_row
-from keptways.base.masks import all_cuts, lots_of, mask_of
+from keptways.base.masks import all_cuts, all_sums, best_parts, fewest_counts, fewest_sum, lots_of, mask_of
+from keptways.base.masks import new_pairs, row_masks
 from keptways.base.nets import MAX_TIES, Net, check_lot, check_net, tally
 from keptways.base.words import is_integer
 from keptways.errors import InvalidNet, InvalidNumber, InvalidOperation, InvalidRow
 from keptways.grow.growth import holds_all
-from keptways.more.splits import all_sums, best_parts, fewest_counts, fewest_sum, new_pairs, row_masks
 
 MAX_FOLD = 9
 MAX_ENDS = 60
@@ -205,6 +205,11 @@ def fewest_ends(net, fold):
     """The least sum of ends that suffice."""
     check_fold(net, fold)
     return fewest_sum(all_lacks(net, fold), fold)
+
+
+def half_up(many):
+    """The half of a number, rounded up."""
+    return (many + 1) // 2
 
 
 def row_within(net, best, places):

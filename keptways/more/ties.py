@@ -1,12 +1,12 @@
 """The fewest new ties, and those of the least price, behind which all numbers are great enough."""
 
 from keptways.base.lots import is_row
+from keptways.base.masks import best_parts
 from keptways.base.nets import MAX_TIES, check_net, ordered
 from keptways.base.words import is_integer
 from keptways.errors import InvalidOperation, NothingToUndo
 from keptways.more.rows import all_lacks, are_counts, check_ends_of, check_fold, counts_of, ends_in_turn, fewest_ends
-from keptways.more.rows import is_ends, lacks_of_row, lots_bound, makes_fold, met_ties, row_within
-from keptways.more.splits import best_parts, half_up
+from keptways.more.rows import half_up, is_ends, lacks_of_row, lots_bound, makes_fold, met_ties, row_within
 
 MAX_PRICE = 1000
 

@@ -1,13 +1,12 @@
 """Wants of its own for each pair of places, and the fewest new ties behind which they are met."""
 
 from keptways.base.lots import is_proper, is_row
-from keptways.base.masks import all_cuts, all_needs, lots_of, mask_of, numbers_of
+from keptways.base.masks import all_cuts, all_needs, best_parts, fewest_sum, lots_of, mask_of, numbers_of
 from keptways.base.nets import Net, check_net, ordered
 from keptways.base.words import is_integer
 from keptways.errors import InvalidLot, InvalidNet, InvalidNumber, InvalidOperation, InvalidRow
-from keptways.more.rows import behind_new, check_ends_of, counts_of, ends_in_turn, is_new_ties, is_order, lots_below
-from keptways.more.rows import new_ties_of, row_within
-from keptways.more.splits import best_parts, fewest_sum, half_up
+from keptways.more.rows import behind_new, check_ends_of, counts_of, ends_in_turn, half_up, is_new_ties, is_order
+from keptways.more.rows import lots_below, new_ties_of, row_within
 from keptways.more.ties import with_even_sum
 from keptways.ways.flows import check_ends
 
